@@ -1,0 +1,138 @@
+"""Concept rules from which all inclusions follow that hold in a world, for concepts in told words."""
+
+from conceptworlds.books import keeps
+from conceptworlds.concepts import conjoin, size_of
+from conceptworlds.deciding import saturate_all
+from conceptworlds.graphs import lies_in, mask_of
+from conceptworlds.programs import Program
+from conceptworlds.saturating import Saturation
+from conceptworlds.smallest import Smallest
+
+
+def _common(one, other):
+    """The things that two sets have in common."""
+    return one & other
+
+
+def smallest_extents(graph, words):
+    """For each set of things of a concept in told words without none, such a concept of least size."""
+    names, roles = words
+    smallest = Smallest(roles, _common, graph.behind)
+    smallest.offer(graph.everything, 0, ())
+    for name in names:
+        smallest.offer(graph.named.get(name, 0), 1, (name,))
+    smallest.run()
+    return smallest
+
+
+def kept_role_rules(graph, roles):
+    """The ascending list of the role rules in told roles that a world keeps, without those below themselves."""
+    rules = [("below", role, other) for role in roles for other in roles if role != other]
+    rules.extend([("itself", role) for role in roles])
+    rules.extend([("passes", role) for role in roles])
+    return [rule for rule in rules if keeps(graph, rule)]
+
+
+def _equalities(graph, words, smallest):
+    """Pairs of a concept and of the chosen concept with the same things; the second one is of no greater size."""
+    names, roles = words
+    pairs = [(name, graph.named.get(name, 0)) for name in names]
+    for value in smallest.pieces:
+        concept = smallest.chosen(value)
+        pairs.extend([(("some", role, concept), graph.behind(role, value)) for role in roles])
+    return [(concept, smallest.chosen(value)) for concept, value in pairs]
+
+
+def _candidates(graph, words, smallest):
+    """Rules, as pairs of pieces and a concept, from which all inclusions follow that hold in the world.
+
+    By the equalities each name, and each some of a chosen concept, is a chosen concept. By the others the
+    and of a chosen concept and one with a single piece is a chosen one, and so is that of any two.
+    """
+    found = []
+    for concept, chosen in _equalities(graph, words, smallest):
+        if concept != chosen:
+            found.append(((concept,), chosen))
+            found.append(((chosen,), concept))
+    for value, pieces in smallest.pieces.items():
+        for single in smallest.singles:
+            piece = smallest.chosen(single)
+            if lies_in(value, single):
+                found.append(((smallest.chosen(value),), piece))
+            elif pieces:
+                found.append(((*pieces, piece), smallest.chosen(value & single)))
+    if 0 in smallest.pieces:
+        found.append(((smallest.chosen(0),), "none"))
+    sizes = [sum([size_of(piece) for piece in pieces]) + size_of(other) for pieces, other in found]
+    order = sorted([(told, place) for place, told in enumerate(sizes)])
+    return [found[place] for _, place in order]
+
+
+class Growing:
+    """Rules that are put one by one, with all that follows from them and from some role rules."""
+
+    def __init__(self, role_rules, asked):
+        self._program = Program(role_rules, asked)
+        self._saturation = saturate_all(self._program)
+        self._joint = self._program.ands()
+
+    def numbers(self, concepts):
+        """The numbers of some terms."""
+        return tuple([self._program.table.number(concept) for concept in concepts])
+
+    def has(self, premises, conclusion):
+        """Whether what lies within some terms lies within another one."""
+        masks, found = self._saturation.masks, 0
+        for premise in premises:
+            found = found | masks[premise]
+        before = -1
+        while found != before:
+            if found >> conclusion & 1 or found >> self._program.bottom & 1:
+                return True
+            before = found
+            for joint, term in self._joint:
+                if lies_in(joint, found):
+                    found = found | masks[term]
+        return False
+
+    def take(self, premises, conclusion):
+        """Puts the rule that what lies within some terms lies within another one."""
+        horn = premises, conclusion, ("rule", len(self._joint), conclusion)
+        self._program.put_horn(*horn)
+        self._joint.append((mask_of(premises), conclusion))
+        self._saturation.apply(horn)
+
+
+def _growing_rules(graph, words, smallest, role_rules):
+    """Those candidates that do not follow from the ones before, as rules."""
+    chosen = [smallest.chosen(value) for value in smallest.pieces]
+    somes = [("some", role, concept) for role in words[1] for concept in chosen]
+    growing, rules = Growing(role_rules, [*words[0], *chosen, *somes]), []
+    for pieces, concept in _candidates(graph, words, smallest):
+        premises, conclusion = growing.numbers(pieces), growing.numbers([concept])[0]
+        if not growing.has(premises, conclusion):
+            growing.take(premises, conclusion)
+            rules.append(("within", conjoin(pieces), concept))
+    return rules
+
+
+def needless(program, rules, index, without):
+    """Whether a concept rule follows from the others, but for some that are left out, too."""
+    saturation = Saturation(program, [*without, index])
+    first, second = program.table.number(rules[index][1]), program.table.number(rules[index][2])
+    saturation.start(first)
+    saturation.run()
+    return saturation.holds(first, second)
+
+
+def find_rules(graph, words):
+    """Concept rules, none of which follows from the others, the role rules behind them, and chosen concepts."""
+    smallest = smallest_extents(graph, words)
+    role_rules = kept_role_rules(graph, words[1])
+    rules = _growing_rules(graph, words, smallest, role_rules)
+    program, without = Program([*rules, *role_rules], []), []
+    for index in reversed(range(len(rules))):
+        if needless(program, rules, index, without):
+            without.append(index)
+    needed = [rule for index, rule in enumerate(rules) if index not in without]
+    return [*needed, *role_rules], [smallest.chosen(value) for value in smallest.pieces]

@@ -1,0 +1,101 @@
+"""Which terms a term lies within, with a reason for each of them."""
+
+# A some that a thing is in for these reasons needs no thing of its own: an edge that is there already,
+# or a loop, leads to a thing that is in its part.
+LED_TO = ("some", "passes", "below", "itself")
+
+
+class Saturation:
+    """The terms that some terms, the subjects, lie within, by a program without some of its concept rules.
+
+    A fact is a triple of a subject, a term that it lies within, and a reason; all facts stand in history,
+    behind the facts from which they follow. A reason begins with a word:
+    - "same", "all", and "and" (the facts for the parts of the term) stand alone;
+    - "part" with the and, "below" with the other some, "itself" with the part: a term of the subject;
+    - "rule" with the index of the rule and its first concept, a term of the subject;
+    - "some", "passes", "empty" with a some of the subject, and a term of the part of this some.
+    A subject that lies within none gets no more facts: it lies within all terms.
+    """
+
+    def __init__(self, program, without=()):
+        self._program = program
+        self._without = {index: True for index in without}
+        self._done = 0
+        self.history = []
+        self.found = {}
+        self.masks = {}
+        self.links = {}
+
+    def start(self, subject):
+        """Makes a term a subject."""
+        if subject not in self.found:
+            self.found[subject] = {}
+            self.masks[subject] = 0
+            self.links[subject] = []
+            self._put(subject, subject, ("same",))
+            self._put(subject, self._program.top, ("all",))
+
+    def run(self):
+        """Finds all that follows; each some that asks for a thing makes its part a subject."""
+        bottom = self._program.bottom
+        while self._done < len(self.history):
+            subject, term, reason = self.history[self._done]
+            self._done = self._done + 1
+            if term == bottom or bottom not in self.found[subject]:
+                self._take(subject, term, reason)
+
+    def is_dead(self, subject):
+        """Whether a subject is nothing."""
+        return self._program.bottom in self.found[subject]
+
+    def holds(self, subject, term):
+        """Whether a subject lies within a term."""
+        return term in self.found[subject] or self.is_dead(subject)
+
+    def apply(self, horn):
+        """Finds what follows by a horn that is new."""
+        for subject in list(self.found):
+            self._fire(subject, self.found[subject], horn)
+        self.run()
+
+    def _put(self, subject, term, reason):
+        """Puts a fact, if it is new."""
+        row = self.found[subject]
+        if term not in row and self._program.bottom not in row:
+            row[term] = len(self.history)
+            self.masks[subject] = self.masks[subject] | 1 << term
+            self.history.append((subject, term, reason))
+
+    def _fire(self, subject, row, horn):
+        """Puts the conclusion of a horn, if the subject lies within its premises."""
+        premises, conclusion, reason = horn
+        if conclusion in row or reason[0] == "rule" and reason[1] in self._without:
+            return
+        for premise in premises:
+            if premise not in row:
+                return
+        self._put(subject, conclusion, reason)
+
+    def _take(self, subject, term, reason):
+        """Puts all that follows from a fact and from those before it."""
+        row = self.found[subject]
+        for horn in self._program.horns(term):
+            self._fire(subject, row, horn)
+        role = self._program.table.roles[term]
+        if role is not None and reason[0] not in LED_TO:
+            self._link(subject, role, term)
+        for holder, by, some in list(self.links[subject]):
+            self._lead(holder, by, some, term)
+
+    def _link(self, subject, role, some):
+        """Gives a subject an edge by a role to the part of a some."""
+        part = self._program.table.within[some][0]
+        self.start(part)
+        self.links[part].append((subject, role, some))
+        for term in list(self.found[part]):
+            self._lead(subject, role, some, term)
+
+    def _lead(self, holder, role, some, term):
+        """Puts what a subject lies within because the part of one of its somes lies within a term."""
+        for conclusion, word in self._program.lifts(role, term):
+            self._put(holder, conclusion, (word, some, term))

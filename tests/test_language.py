@@ -1,0 +1,57 @@
+"""The files of the package keep the rules of the language, and hold what the interface lists."""
+
+import ast
+import importlib
+import unittest
+
+from tests.language import ROOT, complaints, files, rings
+
+INTERFACE = {
+    "errors": ["ConceptError", "BadConcept", "BadWords", "BadWorld", "BadThing", "BadBook", "BadPrices", "NotSame",
+               "NoWorld", "IsNothing", "BadText", "BadIndex", "BadNumber", "TooLarge", "NotFollows", "NotPossible",
+               "NotWithin"],
+    "concepts": ["is_word", "is_concept", "parts", "size", "depth", "text", "words_in"],
+    "worlds": ["World", "product"],
+    "taking": ["TakenIn", "Apart", "compare"],
+    "leanest": ["classes", "leanest"],
+    "books": ["is_rule", "is_book", "words_of", "under", "broken_rules", "closed"],
+    "following": ["Follows", "Fails", "judge", "follows"],
+    "toldworlds": ["terms", "told_world"],
+    "kinds": ["kind", "all_kinds"],
+    "standings": ["standing", "has_loss"],
+    "wordrules": ["WorldRules", "rules_of", "extents"],
+}
+METHODS = {
+    "World": ["size", "names", "edges", "things_in", "words", "__len__", "__iter__", "__contains__", "__eq__"],
+    "TakenIn": ["shows", "__eq__"], "Apart": ["shows", "__eq__"], "Follows": ["shows", "__eq__"],
+    "Fails": ["shows", "__eq__"], "WorldRules": ["shows", "__eq__"],
+}
+
+
+class Language(unittest.TestCase):
+    def test_rules(self):
+        self.assertEqual(complaints(), [])
+
+    def test_no_rings_of_imports(self):
+        self.assertEqual(rings(), [])
+
+    def test_only_files_of_the_program(self):
+        names = [path.name for path in ROOT.iterdir() if path.name != "__pycache__"]
+        self.assertEqual(sorted(names), sorted(path.name for path in files()))
+        self.assertIn("__init__.py", names)
+
+    def test_interface_is_defined_where_it_is_listed(self):
+        for module, names in INTERFACE.items():
+            tree = ast.parse((ROOT / (module + ".py")).read_text())
+            defined = {node.name: node for node in tree.body if isinstance(node, (ast.FunctionDef, ast.ClassDef))}
+            loaded = importlib.import_module("conceptworlds." + module)
+            for name in names:
+                self.assertIn(name, defined)
+                self.assertTrue(hasattr(loaded, name))
+                methods = [one.name for one in defined[name].body if isinstance(one, ast.FunctionDef)]
+                for method in METHODS.get(name, []):
+                    self.assertIn(method, methods)
+
+
+if __name__ == "__main__":
+    unittest.main()
