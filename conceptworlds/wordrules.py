@@ -65,7 +65,7 @@ class WorldRules:
         if not is_book(self.rules) or not keeps_all(graph, self.rules):
             return False
         rules = [rule for rule in self.rules if rule[0] == "within"]
-        if self.rules[len(rules):] != kept_role_rules(graph, words[1]):
+        if list(self.rules[len(rules):]) != kept_role_rules(graph, words[1]):
             return False
         for concept in [*self.concepts, *[part for rule in rules for part in rule[1:]]]:
             if not is_in_words(concept, words):
