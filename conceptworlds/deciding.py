@@ -17,8 +17,8 @@ def decide(book, concept, asked):
 
 def lies_within(book, concept, other):
     """Whether a concept lies within another one by a book."""
-    program, saturation = decide(book, concept, [other])
-    return saturation.holds(program.table.number(concept), program.table.number(other))
+    program = Program(book, [concept, other])
+    return Saturation(program).reaches(program.table.number(concept), program.table.number(other))
 
 
 def saturate_all(program):

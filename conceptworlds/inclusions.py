@@ -120,15 +120,15 @@ def needless(program, rules, index, without):
     """Whether a concept rule follows from the others, but for some that are left out, too."""
     saturation = Saturation(program, [*without, index])
     first, second = program.table.number(rules[index][1]), program.table.number(rules[index][2])
-    saturation.start(first)
-    saturation.run()
-    return saturation.holds(first, second)
+    return saturation.reaches(first, second)
 
 
-def find_rules(graph, words):
-    """Concept rules, none of which follows from the others, the role rules behind them, and chosen concepts."""
+def find_rules(graph, words, role_rules):
+    """Concept rules, none of which follows from the others and from role rules, these behind them, and concepts.
+
+    By the rules, each concept in told words is equal to one of these concepts, or it is nothing.
+    """
     smallest = smallest_extents(graph, words)
-    role_rules = kept_role_rules(graph, words[1])
     rules = _growing_rules(graph, words, smallest, role_rules)
     program, without = Program([*rules, *role_rules], []), []
     for index in reversed(range(len(rules))):

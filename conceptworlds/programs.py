@@ -20,6 +20,7 @@ class Program:
         self._horns = {}
         self._somes = {}
         self._lifts = {}
+        self._lifting = {}
         self._loops = {}
         self.top = self.enter("all")
         self.bottom = self.enter("none")
@@ -95,6 +96,12 @@ class Program:
                 found.append((term, "empty"))
             self._lifts[key] = found
         return self._lifts[key]
+
+    def lifting(self, role):
+        """The set of the terms for which there are lifts by a role. All terms must have been entered."""
+        if role not in self._lifting:
+            self._lifting[role] = mask_of([term for term in self.terms if self.lifts(role, term)])
+        return self._lifting[role]
 
     def ands(self):
         """The terms that are ands, as pairs of the set of the concepts in it, and of the term."""

@@ -1,5 +1,7 @@
 """Which terms a term lies within, with a reason for each of them."""
 
+from conceptworlds.graphs import bits
+
 # A some that a thing is in for these reasons needs no thing of its own: an edge that is there already,
 # or a loop, leads to a thing that is in its part.
 LED_TO = ("some", "passes", "below", "itself")
@@ -25,6 +27,7 @@ class Saturation:
         self.found = {}
         self.masks = {}
         self.links = {}
+        self._holders = {}
 
     def start(self, subject):
         """Makes a term a subject."""
@@ -32,17 +35,21 @@ class Saturation:
             self.found[subject] = {}
             self.masks[subject] = 0
             self.links[subject] = []
+            self._holders[subject] = {}
             self._put(subject, subject, ("same",))
             self._put(subject, self._program.top, ("all",))
 
     def run(self):
         """Finds all that follows; each some that asks for a thing makes its part a subject."""
-        bottom = self._program.bottom
         while self._done < len(self.history):
-            subject, term, reason = self.history[self._done]
-            self._done = self._done + 1
-            if term == bottom or bottom not in self.found[subject]:
-                self._take(subject, term, reason)
+            self._take_next()
+
+    def reaches(self, subject, term):
+        """Whether a subject lies within a term; finds no more than needed for that."""
+        self.start(subject)
+        while self._done < len(self.history) and not self.holds(subject, term):
+            self._take_next()
+        return self.holds(subject, term)
 
     def is_dead(self, subject):
         """Whether a subject is nothing."""
@@ -57,6 +64,13 @@ class Saturation:
         for subject in list(self.found):
             self._fire(subject, self.found[subject], horn)
         self.run()
+
+    def _take_next(self):
+        """Puts all that follows from the next fact."""
+        subject, term, reason = self.history[self._done]
+        self._done = self._done + 1
+        if term == self._program.bottom or self._program.bottom not in self.found[subject]:
+            self._take(subject, term, reason)
 
     def _put(self, subject, term, reason):
         """Puts a fact, if it is new."""
@@ -84,18 +98,22 @@ class Saturation:
         role = self._program.table.roles[term]
         if role is not None and reason[0] not in LED_TO:
             self._link(subject, role, term)
-        for holder, by, some in list(self.links[subject]):
-            self._lead(holder, by, some, term)
+        for by, holders in self._holders[subject].items():
+            lifts = self._program.lifts(by, term)
+            if lifts:
+                for holder, some in list(holders):
+                    self._lead(holder, some, term, lifts)
 
     def _link(self, subject, role, some):
         """Gives a subject an edge by a role to the part of a some."""
         part = self._program.table.within[some][0]
         self.start(part)
         self.links[part].append((subject, role, some))
-        for term in list(self.found[part]):
-            self._lead(subject, role, some, term)
+        self._holders[part].setdefault(role, []).append((subject, some))
+        for term in bits(self.masks[part] & self._program.lifting(role)):
+            self._lead(subject, some, term, self._program.lifts(role, term))
 
-    def _lead(self, holder, role, some, term):
+    def _lead(self, holder, some, term, lifts):
         """Puts what a subject lies within because the part of one of its somes lies within a term."""
-        for conclusion, word in self._program.lifts(role, term):
+        for conclusion, word in lifts:
             self._put(holder, conclusion, (word, some, term))

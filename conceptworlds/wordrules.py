@@ -83,7 +83,8 @@ def rules_of(world, words):
     """The rules of a world in told words."""
     need_world(world)
     need_words(words)
-    rules, concepts = find_rules(world.graph(), words)
+    graph = world.graph()
+    rules, concepts = find_rules(graph, words, kept_role_rules(graph, words[1]))
     return WorldRules(rules, concepts)
 
 

@@ -119,7 +119,6 @@ def check_functions(tree):
     """L4, L10, L15, L17: functions, their sizes and their names."""
     barred = {alias.name for node in tree.body if isinstance(node, ast.ImportFrom) for alias in node.names}
     barred |= {node.name for node in tree.body if isinstance(node, ast.ClassDef)}
-    functions = {node.name for node in tree.body if isinstance(node, ast.FunctionDef)}
     for node in ast.walk(tree):
         if isinstance(node, ast.ClassDef):
             if not node.name[0].isalpha() or node.decorator_list:
@@ -142,13 +141,28 @@ def check_functions(tree):
             if name in UNUSED or name in NOT_NAMES or builtin:
                 yield f"L15 or L17 {name} in {node.name}"
         for name in names:
-            if name in barred or name in functions:
+            if name in barred:
                 yield f"L15 {name} in {node.name}"
             if name.startswith("__"):
                 yield f"L8 {name} in {node.name}"
         if any(isinstance(one, ast.Name) and one.id == "_" and isinstance(one.ctx, ast.Load)
                for one in ast.walk(node)):
             yield f"L12 _ is read in {node.name}"
+
+
+def is_plain_value(node):
+    """Whether a value is a name, an attribute off a name, a literal, or a list or tuple of these."""
+    if isinstance(node, (ast.List, ast.Tuple)):
+        return all(is_plain_value(one) for one in node.elts)
+    return isinstance(node, (ast.Name, ast.Constant)) or isinstance(node, ast.Attribute) and isinstance(node.value, ast.Name)
+
+
+def starred_wrongly(call):
+    """What stands behind a star, or behind what has one, in a call, and may not."""
+    starred = [at for at, one in enumerate(call.args) if isinstance(one, ast.Starred)]
+    for at, one in enumerate(call.args):
+        if starred and at >= starred[0] and not is_plain_value(one.value if isinstance(one, ast.Starred) else one):
+            yield "a star"
 
 
 def check_nodes(tree, methods, attributes, properties):
@@ -160,6 +174,9 @@ def check_nodes(tree, methods, attributes, properties):
             yield f"L6 or L7 {where}"
         if isinstance(node, ast.stmt) and not isinstance(node, STATEMENTS):
             yield f"L6 {where}"
+        if isinstance(node, ast.Starred) and isinstance(node.value, ast.Call) and isinstance(node.value.func, ast.Name):
+            if node.value.func.id in ("reversed", "zip", "enumerate", "range"):
+                yield f"L23 {where}"
         if isinstance(node, ast.Constant) and isinstance(node.value, (float, complex)):
             yield f"L7 {where}"
         if isinstance(node, ast.Compare) and any(isinstance(op, (ast.Is, ast.IsNot)) for op in node.ops):
@@ -180,6 +197,8 @@ def check_nodes(tree, methods, attributes, properties):
             if isinstance(node.ctx, ast.Load) and node.attr not in METHODS | DUNDERS | methods | attributes | properties:
                 yield f"L25 {node.attr} {where}"
         if isinstance(node, ast.Call) and isinstance(node.func, ast.Name):
+            for told in starred_wrongly(node):
+                yield f"L7 {told} {where}"
             for keyword in node.keywords:
                 if (node.func.id, keyword.arg) not in (("sorted", "key"), ("sorted", "reverse")):
                     yield f"L22 {where}"
@@ -221,6 +240,7 @@ def complaints():
     """All that is found in all files."""
     methods, attributes, properties = own_names()
     found = [f"L18 {name} is a method and an attribute" for name in (methods | properties) & attributes]
+    found += [f"L5 {name} is a method and a property" for name in methods & properties]
     for path in files():
         text = path.read_text()
         tree = ast.parse(text)

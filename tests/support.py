@@ -3,6 +3,8 @@
 import itertools
 import random
 
+from conceptworlds.books import words_of
+from conceptworlds.concepts import text, words_in
 from conceptworlds.worlds import World
 
 ROLES = ("r", "s")
@@ -149,3 +151,63 @@ def small_concepts(words, size):
             found += [("and", one, two) for one in by_size[less] for two in by_size[count - less]]
         by_size[count] = found
     return [concept for count in range(size + 1) for concept in by_size[count]]
+
+
+def rename(value, words):
+    """A concept, book, told words or another value made of tuples and lists, with other words for its words."""
+    if isinstance(value, str):
+        return words.get(value, value)
+    if isinstance(value, World):
+        names = [tuple(sorted(words.get(name, name) for name in row)) for row in value.names()]
+        return World(names, sorted((x, words.get(role, role), y) for x, role, y in value.edges()))
+    if isinstance(value, dict):
+        return {rename(key, words): worth for key, worth in value.items()}
+    if isinstance(value, list):
+        return [rename(one, words) for one in value]
+    if not isinstance(value, tuple):
+        return value
+    if value and value[0] in ("and", "within", "below", "passes", "itself"):
+        return (value[0], *[rename(one, words) for one in value[1:]])
+    if value and value[0] == "some":
+        return ("some", words.get(value[1], value[1]), rename(value[2], words))
+    return tuple(rename(one, words) for one in value)
+
+
+def rename_told(words, others):
+    """Told words with other words for them."""
+    return tuple(tuple(sorted(others.get(word, word) for word in row)) for row in words)
+
+
+# Other words in another order; the names of the one are roles of the other.
+OTHERS = {"a": "z", "b": "s", "c": "m", "r": "y", "s": "b", "t": "a"}
+
+
+def all_words(book, *concepts):
+    """The words of a book and of concepts, as told words."""
+    names, roles = set(), set()
+    for told in [words_of(book), words_in(*concepts)]:
+        names |= set(told[0])
+        roles |= set(told[1])
+    return tuple(sorted(names)), tuple(sorted(roles))
+
+
+def unravelled(world, thing, depth):
+    """The concept of all that can be seen from a thing of a world at a depth at most."""
+    pieces = list(world.names()[thing])
+    if depth:
+        pieces += [("some", role, unravelled(world, y, depth - 1)) for x, role, y in world.edges() if x == thing]
+    return ("and", "all", "all", *pieces)
+
+
+def in_order(concept):
+    """Whether a concept is written in order, by the words of the document."""
+    if isinstance(concept, str):
+        return True
+    if concept[0] == "some":
+        return in_order(concept[2])
+    items = concept[1:]
+    texts = [text(item) for item in items]
+    names = [item for item in items if isinstance(item, str)]
+    if texts != sorted(set(texts)) or "all" in names or "none" in names:
+        return False
+    return all(isinstance(item, str) or item[0] == "some" and in_order(item[2]) for item in items)

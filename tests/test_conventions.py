@@ -3,9 +3,18 @@
 import copy
 import unittest
 
-from conceptworlds import books, concepts, following, kinds, leanest, standings, taking, toldworlds, wordrules, worlds
-from conceptworlds.errors import BadBook, BadConcept, BadThing, BadWords, BadWorld, ConceptError
+from conceptworlds import answering, books, cheapest, concepts, exploring, following, kinds, leanest, learning, missing
+from conceptworlds import parts, plain, questions, reduced, rising, saying, standings, taking, toldworlds, wordrules, worlds
+from conceptworlds.errors import BadBook, BadConcept, BadPrices, BadThing, BadWords, BadWorld, ConceptError, NotWithin, TooLarge
+from conceptworlds.answering import Answers, Impossible
+from conceptworlds.cheapest import Cheapest
 from conceptworlds.following import Fails, Follows
+from conceptworlds.missing import Missing
+from conceptworlds.parts import Enough
+from conceptworlds.plain import Mapped, Unmapped
+from conceptworlds.questions import Exact, Ring
+from conceptworlds.rising import Ladder
+from conceptworlds.saying import Loses, Says
 from conceptworlds.taking import Apart, TakenIn
 from conceptworlds.wordrules import WorldRules
 from conceptworlds.worlds import World
@@ -14,6 +23,14 @@ WORLD = World([("a",), ("a", "b"), ()], [(0, "r", 1), (1, "r", 2), (1, "s", 1)])
 BOOK = [("within", "a", ("some", "r", "b")), ("passes", "r"), ("below", "s", "r"), ("within", ("and", "b", "c"), "none")]
 WORDS = ("a", "b"), ("r", "s")
 CONCEPT = ("and", "a", ("some", "r", "b"))
+PRICES = {"a": 1, "b": 2, "c": 0, "r": 1, "s": 0}
+
+
+def refute(concept, other):
+    """An expert for the hidden world WORLD."""
+    found = [thing for thing in WORLD.things_in(concept) if thing not in WORLD.things_in(other)]
+    return (WORLD, found[0]) if found else None
+
 
 # Each function with arguments that are right.
 CALLS = [
@@ -26,7 +43,21 @@ CALLS = [
     (toldworlds.told_world, (BOOK, CONCEPT)), (kinds.kind, (BOOK, CONCEPT, "c")), (kinds.all_kinds, (BOOK, WORDS)),
     (standings.standing, (BOOK, BOOK[1:], WORDS, CONCEPT)), (standings.has_loss, (BOOK, BOOK[1:], WORDS, CONCEPT)),
     (wordrules.rules_of, (WORLD, WORDS)), (wordrules.extents, (WORLD, WORDS)),
+    (saying.says, (BOOK, BOOK[1:], WORDS)), (saying.says, (BOOK, BOOK, (("a",), ("r",)))),
+    (parts.cheapest_part, (BOOK, (("a", "b"), ("r",)), {0: 1, 3: 2})), (questions.questions, (BOOK, CONCEPT)),
+    (questions.questions, (BOOK[:1], "b")), (cheapest.cheapest, (BOOK, CONCEPT, {"a": 1, "b": 2, "c": 0}, {"r": 1, "s": 1})),
+    (plain.tree, (CONCEPT,)), (plain.judge_plain, (CONCEPT, "a")), (plain.judge_plain, ("a", CONCEPT)),
+    (plain.plainly_within, (CONCEPT, "a")), (answering.answer, (BOOK, WORLD, CONCEPT)), (answering.is_possible, (BOOK, WORLD)),
+    (answering.answer, ([*BOOK, ("within", "b", "none")], WORLD, CONCEPT)), (reduced.reduced, (CONCEPT,)),
+    (reduced.plain_common, (CONCEPT, "a")), (rising.steps_up, (CONCEPT,)), (rising.rank, (CONCEPT,)), (rising.above, (CONCEPT,)),
+    (rising.ladder, (CONCEPT, "all")), (missing.missing, (BOOK, WORLD, ("and", "c", "b"), 0, ("a", "c"))),
+    (learning.learn, (lambda concept: concept == "none", lambda concept: None)),
+    (exploring.explore, (WORDS, refute)),
 ]
+
+# The attributes of evidence that have lists, or other evidence.
+LISTS = ("pairs", "steps", "rules", "concepts", "says", "losses", "questions", "low", "ring", "high", "bounds", "nodes",
+         "things", "depths", "explains", "clashes", "unknown")
 
 
 def spoil(found):
@@ -36,7 +67,7 @@ def spoil(found):
             spoil(one)
     if isinstance(found, list):
         found.append("spoilt")
-    for attribute in ("pairs", "steps", "rules", "concepts"):
+    for attribute in LISTS:
         if hasattr(found, attribute):
             spoil(getattr(found, attribute))
     if isinstance(found, World):
@@ -63,7 +94,17 @@ class Conventions(unittest.TestCase):
     def test_evidence_is_equal_by_class_and_attributes(self):
         made = [lambda: TakenIn([(0, 0)]), lambda: Apart("a"), lambda: Follows([("a", "a", "same", ())]),
                 lambda: Fails(World([("a",)], []), 0), lambda: WorldRules([("passes", "r")], ["all"]),
-                lambda: TakenIn([]), lambda: Follows([]), lambda: WorldRules([], [])]
+                lambda: TakenIn([]), lambda: Follows([]), lambda: WorldRules([], []), lambda: Says(["all"]), lambda: Loses("a", "b"),
+                lambda: Loses("b", "a"), lambda: Enough((), Says(["all"]), []), lambda: Enough((), Says([]), []),
+                lambda: Enough((), Says([]), [((0,), Loses("a", "b"))]), lambda: Enough((), Says([]), [((0,), Loses("b", "a"))]),
+                lambda: Exact([], []), lambda: Exact([], ["all"]), lambda: Exact(["all"], []), lambda: Ring("a", [], [], []),
+                lambda: Ring("a", [("r", "a")], [], []), lambda: Ring("a", [], [("r", "a")], []), lambda: Ring("a", [], [], [("r", "a")]),
+                lambda: Cheapest("a", []), lambda: Cheapest("a", [(0, ("all",), 0)]), lambda: Cheapest("b", []), lambda: Mapped([0, 0]),
+                lambda: Mapped([]), lambda: Unmapped(World([("a",)], []), 0), lambda: Unmapped(World([("a",)], []), 1),
+                lambda: Answers([], [], [], World([()], [])), lambda: Answers([], [], [0], World([()], [])), lambda: Answers([0], [], [], World([()], [])),
+                lambda: Answers([], ["a"], [], World([()], [])), lambda: Answers([], [], [], World([("a",)], [])), lambda: Impossible(0, "a"),
+                lambda: Impossible(1, "a"), lambda: Impossible(0, "b"), lambda: Ladder(["all"]), lambda: Ladder([]), lambda: Missing([], [], []),
+                lambda: Missing([()], [], []), lambda: Missing([], [()], []), lambda: Missing([], [], [((), World([()], []))])]
         for at, one in enumerate(made):
             for place, other in enumerate(made):
                 self.assertIs(one() == other(), at == place)
@@ -75,18 +116,26 @@ class Conventions(unittest.TestCase):
                 (taking.compare(WORLD, 1, WORLD, 0, WORDS), (WORLD, 1, WORLD, 0, WORDS)),
                 (following.judge(BOOK, "a", CONCEPT), (BOOK, "a", CONCEPT)),
                 (following.judge(BOOK, CONCEPT, "c"), (BOOK, CONCEPT, "c")),
-                (wordrules.rules_of(WORLD, WORDS), (WORLD, WORDS))]:
+                (wordrules.rules_of(WORLD, WORDS), (WORLD, WORDS)),
+                (saying.says(BOOK, BOOK[1:], WORDS), (BOOK, BOOK[1:], WORDS)), (questions.questions(BOOK, "c"), (BOOK, "c")),
+                (parts.cheapest_part(BOOK, (("a", "b"), ("r",)), {0: 1, 3: 2}), (BOOK, (("a", "b"), ("r",)), {0: 1, 3: 2})),
+                (cheapest.cheapest(BOOK, "a", PRICES, PRICES), (BOOK, "a", PRICES, PRICES)), (plain.judge_plain(CONCEPT, "a"), (CONCEPT, "a")),
+                (plain.judge_plain("a", CONCEPT), ("a", CONCEPT)), (answering.answer(BOOK, WORLD, CONCEPT), (BOOK, WORLD, CONCEPT)),
+                (rising.ladder(CONCEPT, "a"), (CONCEPT, "a")), (missing.missing(BOOK, WORLD, "c", 0, ("c",)), (BOOK, WORLD, "c", 0, ("c",)))]:
             before = copy.deepcopy(evidence)
             self.assertIs(evidence.shows(*arguments), True)
             self.assertEqual(evidence, before)
 
     def test_refused_calls_change_nothing(self):
         world, book = World([("a",)], [(0, "r", 0)]), [("passes", "r"), ("passes", 1)]
-        evidence = TakenIn([(0, 0)])
+        evidence, prices = TakenIn([(0, 0)]), {0: 1}
         for error, call in [
                 (BadConcept, lambda: world.things_in("A")), (BadBook, lambda: books.closed(book, world)),
                 (BadThing, lambda: evidence.shows(world, 1, world, 0, ((), ()))),
                 (BadWords, lambda: wordrules.rules_of(world, ((), ("r", "r")))),
+                (BadBook, lambda: answering.answer(book, world, "A")), (BadConcept, lambda: rising.ladder("a", "none")),
+                (BadPrices, lambda: parts.cheapest_part(book[:1], ((), ()), prices)), (NotWithin, lambda: rising.ladder("a", "b")),
+                (TooLarge, lambda: missing.missing([], world, "a", 0, tuple("bcdefghij"))),
                 (BadWorld, lambda: World([("a",)], [(0, "r", 1)]))]:
             with self.assertRaises(error) as caught:
                 call()
@@ -94,6 +143,7 @@ class Conventions(unittest.TestCase):
         self.assertEqual(world, World([("a",)], [(0, "r", 0)]))
         self.assertEqual(book, [("passes", "r"), ("passes", 1)])
         self.assertEqual(evidence, TakenIn([(0, 0)]))
+        self.assertEqual(prices, {0: 1})
 
     def test_values_of_any_kind_are_refused(self):
         odd = [None, True, False, 0, 7, -1, 10 ** 30, "", "A", b"a", (), [], {}, object(), ConceptError, len, (None,) * 3,

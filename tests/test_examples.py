@@ -45,6 +45,49 @@ EXAMPLES = {
 >>> [kind([('within', 'a', 'b')], ('and', 'a', 'c')), all_kinds([], (('a',), ()))]
 [('a', 'all', 'b'), [(('a', 'all'), 'a'), (('a', 'all', 'none'), 'none'), (('all',), 'all')]]
 """,
+    "saying": r"""
+>>> from conceptworlds.saying import Loses, Says, says
+>>> first = [('within', 'a', ('some', 'r', 'b'))]
+>>> one, two = says(first, [], (('a',), ())), says(first, [], (('a',), ('r',)))
+>>> [isinstance(one, Says), isinstance(two, Loses), two.shows(first, [], (('a',), ('r',)))]
+[True, True, True]
+""",
+    "parts": r"""
+>>> from conceptworlds.parts import cheapest_part
+>>> book = [('within', 'a', 'c'), ('within', 'c', 'b'), ('within', 'a', 'b')]
+>>> [cheapest_part(book, (('a', 'b'), ()), {0: 1, 1: 1, 2: 1}).kept, cheapest_part(book, (('a', 'b'), ()), {0: 1, 1: 1, 2: 5}).kept]
+[(2,), (0, 1)]
+""",
+    "questions": r"""
+>>> from conceptworlds.questions import Ring, questions
+>>> [questions([('within', ('some', 'r', 'b'), 'a')], 'a').questions, isinstance(questions([('within', ('some', 'r', 'a'), 'a')], 'a'), Ring)]
+[['a', ('some', 'r', 'b')], True]
+""",
+    "plain": r"""
+>>> from conceptworlds.plain import judge_plain, plainly_within, tree
+>>> concept, other = ('and', 'bird', ('some', 'eats', ('and', 'worm', 'seed'))), ('some', 'eats', 'seed')
+>>> [tree(concept), judge_plain(concept, other).nodes, plainly_within(other, concept)]
+[[(None, None, ('bird',)), (0, 'eats', ('seed', 'worm'))], [0, 1], False]
+""",
+    "reduced": r"""
+>>> from conceptworlds.reduced import plain_common, reduced
+>>> [reduced(('and', 'b', ('some', 'r', 'all'), ('some', 'r', 'a'), 'b')), plain_common(('some', 'r', ('and', 'a', 'b')), ('and', ('some', 'r', 'a'), 'c'))]
+[('and', 'b', ('some', 'r', 'a')), ('some', 'r', 'a')]
+""",
+    "rising": r"""
+>>> from conceptworlds.rising import above, ladder, rank, steps_up
+>>> concept = ('some', 'r', ('and', 'a', 'b'))
+>>> [steps_up(concept), rank(concept), len(above(concept)), len(ladder(concept, 'all').concepts)]
+[[('and', ('some', 'r', 'a'), ('some', 'r', 'b'))], 4, 6, 5]
+""",
+    "answering": r"""
+>>> from conceptworlds.answering import answer, is_possible
+>>> from conceptworlds.worlds import World
+>>> book, data = [('within', ('some', 'r', 'b'), 'b')], World([(), (), ('b',)], [(0, 'r', 1), (1, 'r', 2)])
+>>> found = answer(book, data, 'b')
+>>> [found.things, found.shows(book, data, 'b'), is_possible([*book, ('within', 'b', 'none')], data)]
+[[0, 1, 2], True, False]
+""",
 }
 
 

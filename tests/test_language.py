@@ -20,11 +20,26 @@ INTERFACE = {
     "kinds": ["kind", "all_kinds"],
     "standings": ["standing", "has_loss"],
     "wordrules": ["WorldRules", "rules_of", "extents"],
+    "saying": ["Says", "Loses", "says"],
+    "parts": ["Enough", "cheapest_part"],
+    "questions": ["Exact", "Ring", "questions"],
+    "cheapest": ["Cheapest", "cheapest"],
+    "plain": ["tree", "Mapped", "Unmapped", "judge_plain", "plainly_within"],
+    "answering": ["Answers", "Impossible", "answer", "is_possible"],
+    "reduced": ["reduced", "plain_common"],
+    "rising": ["steps_up", "rank", "above", "Ladder", "ladder"],
+    "learning": ["learn"],
+    "missing": ["Missing", "missing"],
+    "exploring": ["explore"],
 }
 METHODS = {
     "World": ["size", "names", "edges", "things_in", "words", "__len__", "__iter__", "__contains__", "__eq__"],
     "TakenIn": ["shows", "__eq__"], "Apart": ["shows", "__eq__"], "Follows": ["shows", "__eq__"],
-    "Fails": ["shows", "__eq__"], "WorldRules": ["shows", "__eq__"],
+    "Fails": ["shows", "__eq__"], "WorldRules": ["shows", "__eq__"], "Says": ["shows", "__eq__"],
+    "Loses": ["shows", "__eq__"], "Enough": ["shows", "__eq__"], "Exact": ["shows", "__eq__"], "Ring": ["shows", "__eq__"],
+    "Cheapest": ["shows", "__eq__"], "Mapped": ["shows", "__eq__"], "Unmapped": ["shows", "__eq__"],
+    "Answers": ["shows", "__eq__"], "Impossible": ["shows", "__eq__"], "Ladder": ["shows", "__eq__"],
+    "Missing": ["shows", "__eq__"],
 }
 
 

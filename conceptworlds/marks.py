@@ -1,0 +1,58 @@
+"""The marks of concepts: their kinds, and the parts of questions that they are plainly within."""
+
+from conceptworlds.kindtables import KindTable
+from conceptworlds.smallest import Smallest
+
+
+class MarkTable:
+    """The marks of concepts without none whose names are terms, as pairs of kinds by a book and by the empty one.
+
+    There is no mark, None, of what is nothing by the book.
+    """
+
+    def __init__(self, table, target, questions):
+        self._table = table
+        self._goal = table.bit_of(target)
+        self._plain = KindTable([], questions)
+        self._questions = 0
+        for question in questions:
+            self._questions = self._questions | self._plain.bit_of(question)
+
+    def of(self, concept):
+        """The mark of a concept without none."""
+        if isinstance(concept, str):
+            return self._make(self._table.of_term(concept), self._plain.of_name(concept))
+        if concept[0] == "some":
+            return self.lift(concept[1], self.of(concept[2]))
+        found = self.of(concept[1])
+        for part in concept[2:]:
+            found = self.meet(found, self.of(part))
+        return found
+
+    def meet(self, one, other):
+        """The mark of the and of two concepts, of their marks."""
+        if one is None or other is None:
+            return None
+        return self._make(self._table.meet(one[0], other[0]), self._plain.meet(one[1], other[1]))
+
+    def lift(self, role, mark):
+        """The mark of the some with a role and a concept, of the mark of this."""
+        if mark is None:
+            return None
+        return self._make(self._table.lift(role, mark[0]), self._plain.lift(role, mark[1]))
+
+    def is_answered(self, mark):
+        """Whether concepts with a mark lie within the target exactly if they are plainly within a question."""
+        return bool(mark[0] & self._goal) == bool(mark[1] & self._questions)
+
+    def all_marks(self, words):
+        """A search for the marks of all concepts in told words without none that are not nothing."""
+        found = Smallest(words[1], self.meet, self.lift, True)
+        found.offer(self.of("all"), 0, ())
+        for name in words[0]:
+            found.offer(self.of(name), 1, (name,))
+        return found
+
+    def _make(self, kind, plain):
+        """The mark with two kinds."""
+        return None if self._table.is_dead(kind) else (kind, plain)
