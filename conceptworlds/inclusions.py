@@ -63,7 +63,7 @@ def _candidates(graph, words, smallest):
                 found.append(((*pieces, piece), smallest.chosen(value & single)))
     if 0 in smallest.pieces:
         found.append(((smallest.chosen(0),), "none"))
-    sizes = [sum([size_of(piece) for piece in pieces]) + size_of(other) for pieces, other in found]
+    sizes = [sum([size_of(one) for one in pieces]) + size_of(other) for pieces, other in found]
     order = sorted([(told, place) for place, told in enumerate(sizes)])
     return [found[place] for _, place in order]
 

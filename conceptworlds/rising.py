@@ -63,7 +63,7 @@ class Above:
                     found.append((mask | 1 << at, (*[other for other in least if not upper[at] >> other & 1], at)))
                     if len(found) > self._most:
                         return None
-        return [self._form_of([items[at] for at in least]) for _, least in found]
+        return [self._form_of([items[place] for place in least]) for _, least in found]
 
     def _items_above(self, items, item):
         """The places of the other ones of some items that an item lies plainly within."""

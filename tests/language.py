@@ -150,6 +150,37 @@ def check_functions(tree):
             yield f"L12 _ is read in {node.name}"
 
 
+COMPREHENSIONS = (ast.ListComp, ast.SetComp, ast.DictComp)
+
+
+def variables(comprehension):
+    """The variables of a comprehension."""
+    return {one.id for part in comprehension.generators for one in ast.walk(part.target) if isinstance(one, ast.Name)}
+
+
+def stored_outside(node):
+    """The names that a part of a function assigns, outside of comprehensions and nested functions."""
+    found = {node.id} if isinstance(node, ast.Name) and isinstance(node.ctx, ast.Store) else set()
+    for child in ast.iter_child_nodes(node):
+        if not isinstance(child, (*COMPREHENSIONS, ast.FunctionDef, ast.Lambda)):
+            found |= stored_outside(child)
+    return found
+
+
+def check_comprehensions(node, around=frozenset(), inside=False):
+    """L7: the variables of a comprehension in another one, or in a nested function, are not names further out."""
+    for child in ast.iter_child_nodes(node):
+        if isinstance(child, ast.FunctionDef):
+            own = {arg.arg for arg in [*child.args.args, *child.args.kwonlyargs]} | stored_outside(child)
+            yield from check_comprehensions(child, around | own, bool(around))
+        elif isinstance(child, COMPREHENSIONS):
+            if inside and (variables(child) - {"_"}) & around:
+                yield f"L7 {sorted(variables(child) & around)} in line {child.lineno}"
+            yield from check_comprehensions(child, around | variables(child), True)
+        else:
+            yield from check_comprehensions(child, around, inside)
+
+
 def is_plain_value(node):
     """Whether a value is a name, an attribute off a name, a literal, or a list or tuple of these."""
     if isinstance(node, (ast.List, ast.Tuple)):
@@ -245,6 +276,7 @@ def complaints():
         text = path.read_text()
         tree = ast.parse(text)
         for told in [*check_text(path, text), *check_module(path, tree), *check_functions(tree),
-                     *check_nodes(tree, methods, attributes, properties), *check_strings(tree)]:
+                     *check_nodes(tree, methods, attributes, properties), *check_strings(tree),
+                     *check_comprehensions(tree)]:
             found.append(f"{path.name}: {told}")
     return found
