@@ -33,8 +33,8 @@ class QuestionSearch:
     def run(self):
         """Finds a ring, or the questions.
 
-        First those questions are found that words ask for which can matter. This alone would find a ring, too, but
-        often after many questions.
+        A quick search for a ring goes first: asking alone would find one, too, but often after many questions.
+        Then it asks in those words that can matter for the target, and at last in all words.
         """
         needed = Relevance(self.table, self._target, self.known_words).needed_words
         supports = Supports(self.table, self._target, needed)
