@@ -2,10 +2,8 @@
 
 from conceptworlds.books import keeps
 from conceptworlds.concepts import conjoin, size_of
-from conceptworlds.deciding import saturate_all
-from conceptworlds.graphs import lies_in, mask_of
-from conceptworlds.programs import Program
-from conceptworlds.saturating import Saturation
+from conceptworlds.graphs import lies_in
+from conceptworlds.growing import Growing
 from conceptworlds.smallest import Smallest
 
 
@@ -68,71 +66,29 @@ def _candidates(graph, words, smallest):
     return [found[place] for _, place in order]
 
 
-class Growing:
-    """Rules that are put one by one, with all that follows from them and from some role rules."""
+def find_rules(graph, words, role_rules):
+    """Concept rules, none of which follows from the others and from role rules, these behind them, and concepts.
 
-    def __init__(self, role_rules, asked):
-        self._program = Program(role_rules, asked)
-        self._saturation = saturate_all(self._program)
-        self._joint = self._program.ands()
-
-    def numbers(self, concepts):
-        """The numbers of some terms."""
-        return tuple([self._program.table.number(concept) for concept in concepts])
-
-    def has(self, premises, conclusion):
-        """Whether what lies within some terms lies within another one."""
-        masks, found = self._saturation.masks, 0
-        for premise in premises:
-            found = found | masks[premise]
-        before = -1
-        while found != before:
-            if found >> conclusion & 1 or found >> self._program.bottom & 1:
-                return True
-            before = found
-            for joint, term in self._joint:
-                if lies_in(joint, found):
-                    found = found | masks[term]
-        return False
-
-    def take(self, premises, conclusion):
-        """Puts the rule that what lies within some terms lies within another one."""
-        horn = premises, conclusion, ("rule", len(self._joint), conclusion)
-        self._program.put_horn(*horn)
-        self._joint.append((mask_of(premises), conclusion))
-        self._saturation.apply(horn)
-
-
-def _growing_rules(graph, words, smallest, role_rules):
-    """Those candidates that do not follow from the ones before, as rules."""
+    By the rules, each concept in told words is equal to one of these concepts, or it is nothing. First each
+    candidate is taken that does not follow from those before, and then all that are not needed are left out.
+    """
+    smallest = smallest_extents(graph, words)
     chosen = [smallest.chosen(value) for value in smallest.pieces]
     somes = [("some", role, concept) for role in words[1] for concept in chosen]
     growing, rules = Growing(role_rules, [*words[0], *chosen, *somes]), []
     for pieces, concept in _candidates(graph, words, smallest):
         premises, conclusion = growing.numbers(pieces), growing.numbers([concept])[0]
         if not growing.has(premises, conclusion):
-            growing.take(premises, conclusion)
+            growing.take(growing.put(premises, conclusion))
             rules.append(("within", conjoin(pieces), concept))
-    return rules
+    growing.take_back_all()
+    needed = growing.needed(0, len(rules))
+    return [*[rules[number] for number in needed], *role_rules], chosen
 
 
-def needless(program, rules, index, without):
-    """Whether a concept rule follows from the others, but for some that are left out, too."""
-    saturation = Saturation(program, [*without, index])
-    first, second = program.table.number(rules[index][1]), program.table.number(rules[index][2])
-    return saturation.reaches(first, second)
-
-
-def find_rules(graph, words, role_rules):
-    """Concept rules, none of which follows from the others and from role rules, these behind them, and concepts.
-
-    By the rules, each concept in told words is equal to one of these concepts, or it is nothing.
-    """
-    smallest = smallest_extents(graph, words)
-    rules = _growing_rules(graph, words, smallest, role_rules)
-    program, without = Program([*rules, *role_rules], []), []
-    for index in reversed(range(len(rules))):
-        if needless(program, rules, index, without):
-            without.append(index)
-    needed = [rule for index, rule in enumerate(rules) if index not in without]
-    return [*needed, *role_rules], [smallest.chosen(value) for value in smallest.pieces]
+def are_needed(rules, role_rules):
+    """Whether none of some concept rules follows from the others and from role rules."""
+    growing = Growing(role_rules, [concept for rule in rules for concept in rule[1:]])
+    for _, concept, other in rules:
+        growing.put(growing.numbers([concept]), growing.numbers([other])[0])
+    return len(growing.needed(0, len(rules))) == len(rules)

@@ -28,6 +28,8 @@ class Saturation:
         self.masks = {}
         self.links = {}
         self._holders = {}
+        self._linked = []
+        self._applied = []
 
     def start(self, subject):
         """Makes a term a subject."""
@@ -59,11 +61,37 @@ class Saturation:
         """Whether a subject lies within a term."""
         return term in self.found[subject] or self.is_dead(subject)
 
+    def bar(self, index):
+        """Leaves out a concept rule that is new, until it is applied."""
+        self._without[index] = True
+
     def apply(self, horn):
-        """Finds what follows by a horn that is new."""
+        """Finds what follows by a horn that was left out: that of a concept rule."""
+        del self._without[horn[2][1]]
+        self._applied.append(horn[2][1])
         for subject in list(self.found):
             self._fire(subject, self.found[subject], horn)
         self.run()
+
+    def place(self):
+        """What must be known to go back to all that is found now, where nothing is left to be found."""
+        return len(self.history), len(self._linked), len(self._applied)
+
+    def go_back(self, place):
+        """Goes back to what was found at a place. No term may have become a subject since."""
+        many, links, rules = place
+        for subject, term, _ in self.history[many:]:
+            del self.found[subject][term]
+            self.masks[subject] = self.masks[subject] ^ 1 << term
+        for part, role in self._linked[links:]:
+            self.links[part].pop()
+            self._holders[part][role].pop()
+        for index in self._applied[rules:]:
+            self._without[index] = True
+        del self.history[many:]
+        del self._linked[links:]
+        del self._applied[rules:]
+        self._done = many
 
     def _take_next(self):
         """Puts all that follows from the next fact."""
@@ -110,6 +138,7 @@ class Saturation:
         self.start(part)
         self.links[part].append((subject, role, some))
         self._holders[part].setdefault(role, []).append((subject, some))
+        self._linked.append((part, role))
         for term in bits(self.masks[part] & self._program.lifting(role)):
             self._lead(subject, some, term, self._program.lifts(role, term))
 

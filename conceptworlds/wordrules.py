@@ -3,19 +3,9 @@
 from conceptworlds.books import is_book, keeps_all
 from conceptworlds.concepts import is_in_words, is_without_none, need_words
 from conceptworlds.graphs import bits, lies_in
-from conceptworlds.inclusions import find_rules, kept_role_rules, needless, smallest_extents
+from conceptworlds.inclusions import are_needed, find_rules, kept_role_rules, smallest_extents
 from conceptworlds.kindtables import KindTable
-from conceptworlds.programs import Program
 from conceptworlds.worlds import need_world
-
-
-def _are_needed(rules, many):
-    """Whether none of so many concept rules, which come first, follows from all the other rules."""
-    program = Program(rules, [])
-    for index in range(many):
-        if needless(program, rules, index, []):
-            return False
-    return True
 
 
 def _is_closed(table, concepts, words):
@@ -76,7 +66,7 @@ class WorldRules:
         table = KindTable(self.rules, [*words[0], *self.concepts, *somes])
         if not _is_closed(table, self.concepts, words) or not _all_follow(table, self.concepts, graph):
             return False
-        return _are_needed(self.rules, len(rules))
+        return are_needed(rules, list(self.rules[len(rules):]))
 
 
 def rules_of(world, words):
