@@ -98,6 +98,11 @@ class Rules(unittest.TestCase):
             world, words = chance.world(4), (chance.some_of(("a", "b")), chance.some_of(("r", "s")))
             self.check(world, words, Chance(seed, *words) if words[0] else Chance(seed, ("all",), words[1]))
 
+    def test_larger_worlds(self):
+        for seed in range(3):
+            chance = Chance(seed, names=("a", "b", "c"))
+            self.check(chance.world(7, 0.2), (("a", "b", "c"), ("r", "s")), chance)
+
     def test_words_that_no_thing_has(self):
         world = World([("a",)], [])
         found = self.check(world, (("a", "b"), ("r", "s")), Chance(1))
@@ -150,6 +155,21 @@ class Shows(unittest.TestCase):
         self.assertIs(self.shows(rules[self.count:] + rules[:self.count], concepts), False)
         self.assertIs(self.shows(rules[:self.count] + rules[self.count:][::-1], concepts), False)
         self.assertIs(self.shows([], concepts), False)
+
+    def test_needless_rules_by_chance(self):
+        for seed in range(60):
+            chance = Chance(seed)
+            world, words = chance.world(4), (("a", "b"), ("r", "s")[:1 + seed % 2])
+            found = rules_of(world, words)
+            many = len([rule for rule in found.rules if rule[0] == "within"])
+            for _ in range(6):
+                rule = ("within", *chance.random.choices([*found.concepts, "none", ("and", "a", "b")], k=2))
+                place = chance.random.randint(0, many)
+                more = WorldRules([*found.rules[:place], rule, *found.rules[place:]], found.concepts)
+                self.assertIs(more.shows(world, words), False, rule)
+            for index in range(many):
+                fewer = WorldRules(found.rules[:index] + found.rules[index + 1:], found.concepts)
+                self.assertIs(fewer.shows(world, words), False, found.rules[index])
 
     def test_concepts_altered(self):
         rules, concepts = self.found.rules, self.found.concepts
