@@ -181,6 +181,14 @@ class Shows(unittest.TestCase):
                             (somes(3, "b"), False), (somes(2, "c"), False), (somes(2, "all"), False), (somes(2, "none"), False), ("none", False)]:
             self.check(right, concepts=[told, *self.found.concepts[1:]])
 
+    def test_concepts_of_other_things(self):
+        book, data = [("within", "a", "c"), ("within", "b", "c"), ("within", somes(1, "a"), "c")], World([("a",), ("b",)], [(0, "r", 0)])
+        world = answer(book, data, "c").world
+        for concepts, right in [(["a", "b"], True), (["c", "c"], False), (["b", "a"], False), (["a", "a"], False), (["b", "b"], False),
+                                ([("and", "a", "a"), "b"], True), ([somes(1, "a"), "b"], False), (["a", ("and", "b", "all")], True)]:
+            self.assertIs(Answers([0, 1], concepts, [0, 0], world).shows(book, data, "c"), right)
+        self.assertFalse(Answers([0, 1], [somes(1, "a"), "b"], [1, 0], world).shows(book, data, "c"))
+
     def test_depths(self):
         for depths in ([3, 1, 0], [2, 1, 1], [0, 1, 2], [2, 1, -1], [2, 0, 0]):
             self.check(False, depths=depths)

@@ -120,6 +120,24 @@ class Learning(unittest.TestCase):
 
             self.check(mind, choose)
 
+    def test_counterexamples_in_turn(self):
+        pairs = [("and", "a", "b"), ("and", "c", "d"), ("and", "e", "f"), ("and", "b", "c"), ("and", "d", "a")]
+        for many in range(2, 6):
+            mind = ("and", *[("some", "r", pair) for pair in pairs[:many]])
+            lower = [("and", "all", *[("some", "r", pair) for pair in pairs[:many] if pair not in (one, other)], ("some", "r", ("and", one, other)))
+                     for at, one in enumerate(pairs[:many]) for other in pairs[:at]]
+            turn = []
+
+            def choose(concept, told):
+                turn.append(len(turn))
+                for at in range(len(lower)):
+                    found = lower[(at + len(turn)) % len(lower)]
+                    if plainly_within(found, told) != plainly_within(found, concept):
+                        return found
+                return the_mind(concept, told)
+
+            self.check(mind, choose)
+
     def test_large(self):
         rest = [("some", "r", Chance(seed, names=("a", "b", "c", "d")).concept(4, False)) for seed in range(250)]
         mind = ("and", "a", ("some", "r", ("and", "a", ("some", "s", "b"))), ("some", "s", "c"))

@@ -140,6 +140,9 @@ class Shows(unittest.TestCase):
         self.assertFalse(Unmapped(world, -1).shows(concept, other))
         self.assertFalse(Unmapped(world, 10 ** 30).shows(concept, other))
         self.assertTrue(Unmapped(world, 2).shows("all", "none"))
+        self.assertNotEqual(Unmapped(world, 0), Unmapped(World([()], []), 0))
+        self.assertNotEqual(Unmapped(world, 0), Unmapped(world, 1))
+        self.assertEqual(Unmapped(world, 1), Unmapped(World(world.names(), world.edges()), 1))
 
     def test_altered_maps_by_chance(self):
         for seed in range(150):

@@ -129,6 +129,11 @@ class Asking(unittest.TestCase):
         self.assertEqual(questions(book, "a").questions, ["a", ("and", ("some", "r", "b"), ("some", "r", "c"))])
         self.assertEqual(questions(book, somes(1)).questions,
                          [("some", "r", ("and", ("some", "r", "b"), ("some", "r", "c"))), ("some", "r", "a")])
+        apart = ("and", somes(1, "a"), somes(1, "b"), somes(1, "c"))
+        book = [("within", apart, "t"), ("within", ("and", "a", "b"), "none"), ("within", somes(1, ("and", "a", "c")), "all")]
+        found = questions(book, "t")
+        self.assertEqual(found.questions, [apart, "t"])
+        self.assertTrue(found.shows(book, "t"))
         pairs = [("within", ("and", ("some", "r", one), ("some", "r", two)), "t") for one, two in ["ab", "bc", "ca"]]
         self.assertEqual(len(questions(pairs, "t").questions), 4)
 
@@ -323,6 +328,11 @@ class ShowsRing(unittest.TestCase):
         self.assertEqual(questions(RA, "a"), before)
         self.assertNotEqual(found, before)
         self.assertNotEqual(Ring("a", [], [], []), Exact("a", []))
+        ways = [("r", "all")], [("s", "all")], [("t", "all")]
+        self.assertEqual(Ring("a", *ways), Ring("a", *[tuple(way) for way in ways]))
+        self.assertNotEqual(Ring("a", *ways), Ring("b", *ways))
+        for at in range(3):
+            self.assertNotEqual(Ring("a", *ways), Ring("a", *ways[:at], [], *ways[at + 1:]))
 
 
 class Refusals(unittest.TestCase):

@@ -147,6 +147,29 @@ class Common(unittest.TestCase):
         self.assertEqual(plain_common(("and", just, "z", ("some", "s", "a"))), reduced(("and", just, "z")))
         self.assertEqual(plain_common("none", just), reduced(just))
 
+    def test_limit_further_down(self):
+        many = [("and", *names) for names in itertools.combinations("abcdefghijklmno", 3)]
+        self.assertEqual(len(many), 455)
+        row = ("and", *[("some", "r", child) for child in many[:332]])
+        five = [("some", role, row) for role in "abcdef"]
+        just = ("and", *five, somes(1, "all", "y"))
+        self.assertEqual(len(tree(just)), 1 + 6 * 333 + 1)
+        self.assertEqual(plain_common(just, "none"), reduced(just))
+        for concept in [("and", *five, somes(2, "all", "y")), ("and", *five, somes(1, "all", "y"), ("some", "z", "a")), somes(1, just)]:
+            self.assertEqual(len(tree(concept)), 2001)
+            with self.assertRaises(TooLarge):
+                plain_common(concept)
+
+    def test_limit_reached_before_the_end(self):
+        many = [("and", *names) for names in itertools.combinations("abcdefghijklmno", 5)][:1998]
+        for last in ("all", "a"):
+            just = ("and", *[("some", "r", child) for child in many], ("some", "s", last))
+            self.assertEqual(len(tree(just)), 2000)
+            self.assertEqual(plain_common(just), reduced(just))
+        for more in [somes(2, "all", "s"), ("and", somes(1, "a", "s"), somes(1, "b", "s"))]:
+            with self.assertRaises(TooLarge):
+                plain_common(("and", *[("some", "r", child) for child in many], more))
+
     def test_limit_of_several(self):
         two = ("and", ("some", "r", "a"), ("some", "r", "b"))
         self.assertEqual(common_tree([tree(two)] * 10), 1025)

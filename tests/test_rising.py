@@ -90,6 +90,9 @@ class Ranks(unittest.TestCase):
         self.assertEqual(len(above(names(7))), 128)
         self.assertEqual(len(above(somes(98, names(2)))), 200)
         self.assertEqual(len(above(("and", somes(23), somes(7, "all", "s")))), 25 * 8)
+        self.assertEqual(len(above(("and", somes(1), somes(65, "all", "s")))), 3 * 66)
+        with self.assertRaises(TooLarge):
+            above(("and", somes(1), somes(66, "all", "s")))
         for concept in [names(8), somes(99, names(2)), ("and", somes(24), somes(7, "all", "s")), somes(30, names(12)), names(70)]:
             with self.assertRaises(TooLarge):
                 above(concept)

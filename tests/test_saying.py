@@ -69,12 +69,31 @@ class Saying(unittest.TestCase):
             first = [("within", somes(count), somes(2, "b"))]
             found = says(first, [], (("a", "b"), ("r",)))
             self.assertEqual(depth(found.concept), count)
+            first = [("within", somes(count, "all"), "b")]
+            self.assertEqual(says(first, [], (("a", "b"), ("r",))), Loses(somes(count, "all"), "b"))
         first = [("itself", "s"), ("within", ("some", "r", ("some", "s", "c")), ("some", "r", "a"))]
         found = says(first, first[:1], (("a", "c"), ("r", "s")))
         self.assertEqual(depth(found.concept), 1)
         first = [("passes", "r"), ("within", somes(3), "b")]
         self.assertEqual(depth(says(first, first[:1], (("a", "b"), ("r",))).concept), 3)
         self.assertFalse(Loses(somes(4), "b").shows(first, first[:1], (("a", "b"), ("r",))))
+
+    def test_each_pair(self):
+        words = tuple("abcdefg"), ("r",)
+        for at, one in enumerate("abcdef"):
+            for other in "abcdef"[:at]:
+                for target in ("g", somes(1, "g"), "none"):
+                    found = says([("within", ("and", one, other), target)], [], words)
+                    self.assertEqual(set(found.concept), {"and", one, other})
+                found = says([("within", ("and", somes(1, one), somes(1, other)), "g")], [], words)
+                self.assertEqual(set(found.concept), {"and", somes(1, one), somes(1, other)})
+
+    def test_one_of_two_is_lost(self):
+        both = [("within", "w", "c"), ("within", "x", "c")]
+        for one, other in [("w", "x"), ("x", "w")]:
+            first, second = [*both, ("within", somes(1, "c"), somes(1, "y"))], [*both, ("within", one, "y")]
+            self.assertEqual(says(first, second, (("w", "x", "y"), ("r",))).concept, somes(1, other))
+            self.assertIsInstance(says(first, [*second, ("within", other, "y")], (("w", "x", "y"), ("r",))), Says)
 
     def test_role_rules(self):
         rules = [("passes", "r"), ("below", "r", "s"), ("itself", "s")]
@@ -180,6 +199,14 @@ class Shows(unittest.TestCase):
         self.assertTrue(Says(closed).shows([], [], words))
         self.assertFalse(Says(closed).shows(AB, [], words))
         self.assertFalse(Says([*closed, "a"]).shows(AB, [], words))
+        first, words = [("within", "a", "b")], (("a", "b"), ())
+        self.assertTrue(Says(["all", "a", "b", ("and", "a", "b")]).shows([], first, words))
+        self.assertFalse(Says(["all", "a", "b", ("and", "a", "b")]).shows(first, [], words))
+        self.assertFalse(Says(["all", "a"]).shows([("within", "a", "none")], [], (("a",), ())))
+        pieces = ["all", somes(1, "all"), somes(2, "all"), somes(3, "all"), somes(4, "all")]
+        first, words = [("within", somes(1, "all"), somes(2, "all"))], ((), ("r",))
+        self.assertTrue(Says(pieces).shows(first, first, words))
+        self.assertFalse(Says(pieces).shows(first, [], words))
 
     def test_altered_loses(self):
         first, words = [("within", somes(1), "b"), ("within", "c", "a")], (("a", "b", "c"), ("r",))
@@ -193,6 +220,11 @@ class Shows(unittest.TestCase):
                                (("and", somes(1), somes(2)), "b"), ("none", "b"), (somes(1), "all")]:
             self.assertFalse(Loses(concept, other).shows(first, second, words))
         self.assertFalse(Loses(somes(1), "b").shows(first, second, (("a", "c"), ("r",))))
+        more = [*first, ("within", somes(1), ("and", "d", somes(1, "b", "s")))]
+        for other, right in [("b", True), ("d", False), (("and", "b", "d"), False), (somes(1, "b", "s"), False), (somes(1, "a"), False)]:
+            self.assertIs(Loses(somes(1), other).shows(more, second, words), right)
+        self.assertNotEqual(Loses(somes(1), "b"), Loses(somes(1), "a"))
+        self.assertNotEqual(Loses(somes(1), "b"), Loses("a", "b"))
         self.assertFalse(Loses(somes(1), "b").shows(first, second, (("a", "b"), ())))
         self.assertFalse(Loses(somes(1), "b").shows(second, first, words))
         self.assertFalse(Loses(somes(1, "a", "s"), "b").shows([*first, ("within", somes(1, "a", "s"), "b")], second, words))
