@@ -224,7 +224,10 @@ class ShowsExact(unittest.TestCase):
         book = [*RB, ("within", ("and", "b", "c"), "none")]
         found = questions(book, "a")
         self.assertFalse(Exact(["a", ("and", "b", "c"), somes(1, "b")], found.concepts).shows(book, "a"))
-        self.assertFalse(Exact(found.questions, [*found.concepts, ("and", "b", "c")]).shows(book, "a"))
+        dead = ("and", "b", "c")
+        for concept in [dead, ("and", dead, "a"), ("and", "a", dead), ("some", "r", dead), ("and", "a", ("some", "r", dead)), ("and", dead, dead)]:
+            self.assertFalse(Exact(found.questions, [*found.concepts, concept]).shows(book, "a"))
+            self.assertFalse(Exact([concept], found.concepts).shows(book, "a"))
 
     def test_concepts(self):
         for book, target in [(RB, "a"), ([("within", "a", "b")], ("some", "r", "b")), ([("within", "a", "none")], "a"), ([], somes(2))]:
