@@ -3,7 +3,7 @@
 from heapq import heappop, heappush
 
 from conceptworlds.errors import BadPrices
-from conceptworlds.graphs import bits, lies_in
+from conceptworlds.graphs import bits, mask_of
 from conceptworlds.worlds import is_number
 
 
@@ -33,22 +33,43 @@ def need_word_prices(prices, words):
         raise BadPrices("not prices of all words")
 
 
+def _still_needed(wanted, chosen):
+    """A price and a number that a choice needs at least beside what is chosen, and the first set that it misses.
+
+    Of sets that have nothing in common, and that are missed, each one needs one more number at least.
+    """
+    price, many, used, first = 0, 0, chosen, None
+    for mask, least in wanted:
+        if not mask & chosen and first is None:
+            first = mask
+        if not mask & used:
+            price, many, used = price + least, many + 1, used | mask
+    return price, many, first
+
+
 def cheapest_choice(prices, barred):
     """The price and the set of some of the numbers from 0, as few as can be of the least price, that is not barred.
 
     The price of a number is at its place; a set is barred, if it lies within one of the barred sets. Each choice
-    that is not barred has a number outside of each barred set, so the choices are made of those.
+    that is not barred has a number outside of each barred set, so the choices are made of those, in the order of
+    what they cost at least in the end.
     """
     everything = (1 << len(prices)) - 1
-    queue, seen = [(0, 0, 0)], {0: True}
+    if everything in barred:
+        return None
+    sets = [bits(everything & ~mask) for mask in barred]
+    wanted = [(mask_of(numbers), min([prices[at] for at in numbers])) for numbers in sorted(sets, key=len)]
+    queue, seen = [(0, 0, 0, 0, 0)], {0: True}
     while queue:
-        price, many, chosen = heappop(queue)
-        wider = [mask for mask in barred if lies_in(chosen, mask)]
-        if not wider:
+        _, _, price, many, chosen = heappop(queue)
+        _, _, missed = _still_needed(wanted, chosen)
+        if missed is None:
             return price, chosen
-        for at in bits(everything & ~wider[0]):
+        for at in bits(missed):
             more = chosen | 1 << at
             if more not in seen:
                 seen[more] = True
-                heappush(queue, (price + prices[at], many + 1, more))
+                rest, count, _ = _still_needed(wanted, more)
+                total = price + prices[at]
+                heappush(queue, (total + rest, many + 1 + count, total, many + 1, more))
     return None
