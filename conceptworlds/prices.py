@@ -58,7 +58,7 @@ def cheapest_choice(prices, barred):
     if everything in barred:
         return None
     sets = [bits(everything & ~mask) for mask in barred]
-    wanted = [(mask_of(numbers), min([prices[at] for at in numbers])) for numbers in sorted(sets, key=len)]
+    wanted = [(mask_of(numbers), min([prices[number] for number in numbers])) for numbers in sorted(sets, key=len)]
     queue, seen = [(0, 0, 0, 0, 0)], {0: True}
     while queue:
         _, _, price, many, chosen = heappop(queue)
