@@ -45,6 +45,17 @@ class Cheapest(unittest.TestCase):
         self.assertEqual(cheapest_part(ABC, AB, {2: 2 * high + 1, 1: high, 0: high}).kept, (0, 1))
         self.assertEqual(cheapest_part(ABC, AB, {0: 0, 1: 1, 2: 2}).kept, (0, 1))
 
+    def test_many_links(self):
+        names = ["a", *["x" + one for one in "cdefghijklmnopqrs"], "b"]
+        links = list(zip(names, names[1:]))
+        book = [("within", *link) for link in links for _ in range(2)] + [("within", "b", "a")]
+        prices = {at: 1 + at // 2 % 3 - (at % 6 == 0) for at in range(len(book))}
+        found = cheapest_part(book, AB, prices)
+        self.assertEqual(len(found.kept), len(links) + 1)
+        self.assertEqual(price(prices, found.kept), sum(min(prices[at], prices[at + 1]) for at in range(0, 2 * len(links), 2)) + prices[len(book) - 1])
+        self.assertTrue(found.shows(book, AB, prices))
+        self.assertFalse(Enough(found.kept, found.says, found.losses[1:]).shows(book, AB, {**prices, **{at: 1 for at in prices}}))
+
     def test_without_concept_rules(self):
         for book in [[], [("passes", "r"), ("itself", "r"), ("passes", "r")]]:
             found = cheapest_part(book, (("a",), ("r",)), {})
