@@ -49,12 +49,16 @@ class LeastViews:
 
     def _join(self, parts, joint, view, pieces):
         """Notes the ands of a concept and of one for each of some terms, which lie within an and."""
-        meet, found = self._meet, {view: pieces}
+        found = {view: pieces}
         for part in parts:
-            rows = {}
-            for one, own in found.items():
-                for other, more in self.views[part].items():
-                    rows[meet(one, other)] = (*own, *[piece for piece in more if piece not in own])
-            found = rows
+            found = self._met(found, self.views[part])
         for one, own in found.items():
             self.put(joint, one, own)
+
+    def _met(self, rows, others):
+        """The ands of concepts, given as a dict from their views to their pieces, with others."""
+        meet, found = self._meet, {}
+        for one, own in rows.items():
+            for other, more in others.items():
+                found[meet(one, other)] = (*own, *[piece for piece in more if piece not in own])
+        return found

@@ -68,15 +68,13 @@ class RingSearch:
             for number in steps:
                 before[number].append(at)
         found = {at: None for at, end in enumerate(self._ends) if end is not None}
-        order = list(found)
-        while order:
-            later = []
-            for number in order:
-                for at in before[number]:
-                    if at not in found:
-                        found[at] = number
-                        later.append(at)
-            order = later
+        waiting, place = list(found), 0
+        while place < len(waiting):
+            for at in before[waiting[place]]:
+                if at not in found:
+                    found[at] = waiting[place]
+                    waiting.append(at)
+            place = place + 1
         return found
 
     def _cycle(self, onward):

@@ -237,6 +237,77 @@ def check_nodes(tree, methods, attributes, properties):
                 yield f"L24 {where}"
 
 
+CHANGES = set("append extend insert pop remove clear update setdefault reverse sort add discard".split())
+
+
+def lists_of(value):
+    """What a value may be, as the texts of names, attributes and items: also of each side of a choice."""
+    if isinstance(value, ast.IfExp):
+        return lists_of(value.body) | lists_of(value.orelse)
+    if isinstance(value, ast.BoolOp):
+        return set().union(*[lists_of(one) for one in value.values])
+    return {ast.unparse(value)} if isinstance(value, (ast.Name, ast.Attribute, ast.Subscript)) else set()
+
+
+def walked_by(value):
+    """What a loop over a value goes over, also through items, enumerate and the like."""
+    if isinstance(value, ast.Call) and isinstance(value.func, ast.Attribute):
+        return walked_by(value.func.value) if value.func.attr in ("items", "keys", "values") else set()
+    if isinstance(value, ast.Call):
+        through = isinstance(value.func, ast.Name) and value.func.id in ("enumerate", "zip", "reversed")
+        return set().union(*[walked_by(one) for one in value.args]) if through else set()
+    return lists_of(value)
+
+
+def changed_by(node):
+    """What a part of a function changes: the list of a method that modifies, of an item that is assigned."""
+    if isinstance(node, ast.Call) and isinstance(node.func, ast.Attribute) and node.func.attr in CHANGES:
+        return lists_of(node.func.value)
+    if isinstance(node, ast.Call) and isinstance(node.func, ast.Name) and node.func.id.startswith("heap"):
+        return lists_of(node.args[0])
+    if isinstance(node, ast.Subscript) and isinstance(node.ctx, (ast.Store, ast.Del)):
+        return lists_of(node.value)
+    return set()
+
+
+def assignments(target, value):
+    """The pairs of a target and a value of an assignment, also of one to several names at once."""
+    if isinstance(target, ast.Tuple) and isinstance(value, ast.Tuple) and len(target.elts) == len(value.elts):
+        for one, other in zip(target.elts, value.elts):
+            yield from assignments(one, other)
+    else:
+        yield target, value
+
+
+def same_lists(function):
+    """A function from the text of a name to one that stands for all names which a function may give the same list."""
+    before = {}
+
+    def first(told):
+        while told in before:
+            told = before[told]
+        return told
+
+    for node in ast.walk(function):
+        for target in node.targets if isinstance(node, ast.Assign) else []:
+            for one, value in assignments(target, node.value):
+                for told in lists_of(value):
+                    if first(ast.unparse(one)) != first(told):
+                        before[first(ast.unparse(one))] = first(told)
+    return first
+
+
+def check_walks(tree):
+    """L23: what a loop walks is not changed in it, by none of the names that it may have in the function."""
+    for function in [node for node in ast.walk(tree) if isinstance(node, ast.FunctionDef)]:
+        first = same_lists(function)
+        for loop in [node for node in ast.walk(function) if isinstance(node, ast.For)]:
+            walked = {first(told) for told in walked_by(loop.iter)}
+            for node in [one for row in loop.body for one in ast.walk(row)]:
+                if {first(told) for told in changed_by(node)} & walked:
+                    yield f"L23 {ast.unparse(loop.iter)} is changed in line {node.lineno}"
+
+
 def check_strings(tree):
     """L17 and L27: strings."""
     for told in code_without_docstrings(tree):
@@ -277,6 +348,6 @@ def complaints():
         tree = ast.parse(text)
         for told in [*check_text(path, text), *check_module(path, tree), *check_functions(tree),
                      *check_nodes(tree, methods, attributes, properties), *check_strings(tree),
-                     *check_comprehensions(tree)]:
+                     *check_comprehensions(tree), *check_walks(tree)]:
             found.append(f"{path.name}: {told}")
     return found

@@ -4,7 +4,7 @@ import ast
 import importlib
 import unittest
 
-from tests.language import ROOT, complaints, files, rings
+from tests.language import ROOT, check_walks, complaints, files, rings
 
 INTERFACE = {
     "errors": ["ConceptError", "BadConcept", "BadWords", "BadWorld", "BadThing", "BadBook", "BadPrices", "NotSame",
@@ -46,6 +46,15 @@ METHODS = {
 class Language(unittest.TestCase):
     def test_rules(self):
         self.assertEqual(complaints(), [])
+
+    def test_what_a_loop_walks_is_not_changed_by_another_name(self):
+        for told, right in [
+                ("def f(xs):\n for x in xs:\n  xs.append(x)", False), ("def f(xs):\n for x in list(xs):\n  xs.append(x)", True),
+                ("def f(xs):\n while xs:\n  ys = []\n  for x in xs:\n   ys.append(x)\n  xs = ys", False),
+                ("def f(d, e):\n while d:\n  e = {}\n  for k, v in d.items():\n   e[k] = v\n  d = e", False),
+                ("def f(s):\n for x in s.rows:\n  s.rows.pop()", False), ("def f(s, c):\n ys = s.rows if c else []\n for x in ys:\n  del s.rows[0]", False),
+                ("def f(xs):\n ys = []\n for x in xs:\n  ys.append(x)\n return ys", True)]:
+            self.assertIs(not list(check_walks(ast.parse(told))), right, told)
 
     def test_no_rings_of_imports(self):
         self.assertEqual(rings(), [])
