@@ -1,7 +1,7 @@
 """Rules and books, and the worlds that keep them."""
 
 from conceptworlds.concepts import collect_words, is_concept, is_word, need_role, told_words
-from conceptworlds.errors import BadBook
+from conceptworlds.errors import BadBook, BadWorld
 from conceptworlds.graphs import lies_in
 from conceptworlds.roles import Roles, close_rows, list_edges
 from conceptworlds.worlds import World, need_world
@@ -114,3 +114,10 @@ def closed(book, world):
     need_world(world)
     rows = close_rows(Roles(book), world.graph().ahead, len(world))
     return World(world.names(), list_edges(rows))
+
+
+def need_keeping(book, world):
+    """Refuses what is no world, or does not keep what is known to be a book."""
+    need_world(world)
+    if not keeps_all(world.graph(), book):
+        raise BadWorld("the world does not keep the book")

@@ -79,11 +79,12 @@ class Explaining:
 
         They are tried in their order; what is given besides is a set of terms.
         """
-        kept = list(pieces)
-        for piece in pieces:
-            rest, found = [other for other in kept if other[1] != piece[1]], given
-            for mask, _ in rest:
-                found = found | mask
-            if lies_in(goal, self._table.close(found)):
-                kept = rest
+        behind = [0]
+        for mask, _ in pieces[::-1]:
+            behind.append(behind[-1] | mask)
+        kept, found = [], given
+        for at, piece in enumerate(pieces):
+            if not lies_in(goal, self._table.close(found | behind[len(pieces) - 1 - at])):
+                kept.append(piece)
+                found = found | piece[0]
         return kept

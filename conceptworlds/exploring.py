@@ -3,18 +3,17 @@
 from conceptworlds.concepts import need_words, text_of
 from conceptworlds.inclusions import find_rules
 from conceptworlds.leanest import leanest
-from conceptworlds.worlds import World
+from conceptworlds.worlds import World, told_part
 
 
 def _put_world(known, world, words):
     """A world with the things of a known one, None at the beginning, and of a new one, as far as told words tell."""
-    names, edges = ([], []) if known is None else (known.names(), known.edges())
+    names, edges, part = [], [], told_part(world, words)
+    if known is not None:
+        names, edges = known.names(), known.edges()
     first = len(names)
-    names.extend([tuple([name for name in row if name in words[0]]) for row in world.names()])
-    for thing, role, end in world.edges():
-        if role in words[1]:
-            edges.append((first + thing, role, first + end))
-    return leanest(World(names, edges))
+    edges.extend([(first + thing, role, first + end) for thing, role, end in part.edges()])
+    return leanest(World([*names, *part.names()], edges))
 
 
 def explore(words, expert):

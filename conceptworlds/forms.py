@@ -1,6 +1,6 @@
 """Reduced forms with numbers, how they lie within each other, and which are directly above which."""
 
-from conceptworlds.concepts import conjoin
+from conceptworlds.concepts import conjoin, is_without_none
 from conceptworlds.graphs import lies_in
 
 
@@ -181,3 +181,20 @@ class Forms:
     def _ends_by(self, forms, role):
         """For each of some forms, the list of its children by a role."""
         return [[child for own, child in self.children[form] if own == role] for form in forms]
+
+
+def numbers_apart(forms, told):
+    """The numbers of some concepts, if they are reduced forms without none, ascending, and none lies within another.
+
+    Otherwise None.
+    """
+    if [concept for concept in told if not is_without_none(concept)]:
+        return None
+    numbers = [forms.of(concept) for concept in told]
+    texts = [forms.texts[number] for number in numbers]
+    if [forms.concepts[number] for number in numbers] != list(told) or texts != sorted(set(texts)):
+        return None
+    for number in numbers:
+        if [other for other in numbers if other != number and forms.is_within(number, other)]:
+            return None
+    return numbers

@@ -4,31 +4,29 @@ from conceptworlds.simulating import takers
 from conceptworlds.worlds import World, need_world
 
 
-def _alike(masks):
-    """The classes of alike things, for the set of the things by which each thing is taken in.
+def alike(world):
+    """The classes of alike things of a world, and for each thing the set of the things by which it is taken in.
 
     Each thing is taken in by itself, and what is taken in by a taker of a thing takes in this, too;
     so things are alike exactly if they are taken in by the same things.
     """
-    found = {}
+    masks, found = takers(world.graph(), world.graph(), world.words()), {}
     for thing, mask in enumerate(masks):
         found.setdefault(mask, []).append(thing)
-    return list(found.values())
+    return list(found.values()), masks
 
 
 def classes(world):
     """The classes of alike things, in the order of their least things."""
     need_world(world)
-    return _alike(takers(world.graph(), world.graph(), world.words()))
+    return alike(world)[0]
 
 
 def leanest(world):
     """The leanest world of a world."""
     need_world(world)
-    graph, rows = world.graph(), world.names()
-    masks = takers(graph, graph, world.words())
-    groups = _alike(masks)
-    edges = []
+    groups, masks = alike(world)
+    graph, rows, edges = world.graph(), world.names(), []
     for at, group in enumerate(groups):
         for role in graph.ahead:
             ends = 0

@@ -4,7 +4,7 @@ from conceptworlds.asking import QuestionSearch
 from conceptworlds.books import need_book
 from conceptworlds.concepts import is_in_words, is_without_none, words_in
 from conceptworlds.deciding import lies_within
-from conceptworlds.forms import Forms
+from conceptworlds.forms import Forms, numbers_apart
 from conceptworlds.kindtables import KindTable
 from conceptworlds.marks import MarkTable
 from conceptworlds.trees import need_without_none
@@ -14,21 +14,6 @@ def _need_question(book, target):
     """Refuses what is not a book and a concept without none."""
     need_book(book)
     need_without_none(target)
-
-
-def _are_least(told):
-    """Whether some concepts are reduced forms, in ascending order, none of them plainly within another one."""
-    if [concept for concept in told if not is_without_none(concept)]:
-        return False
-    forms = Forms()
-    numbers = [forms.of(concept) for concept in told]
-    texts = [forms.texts[number] for number in numbers]
-    if [forms.concepts[number] for number in numbers] != told or texts != sorted(set(texts)):
-        return False
-    for number in numbers:
-        if [other for other in numbers if other != number and forms.is_within(number, other)]:
-            return False
-    return True
 
 
 class Exact:
@@ -48,7 +33,7 @@ class Exact:
         nothing. So the concepts are closed exactly if they have all marks that there are.
         """
         _need_question(book, target)
-        if not _are_least(list(self.questions)):
+        if numbers_apart(Forms(), self.questions) is None:
             return False
         for question in self.questions:
             if lies_within(book, question, "none") or not lies_within(book, question, target):

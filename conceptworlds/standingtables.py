@@ -34,14 +34,7 @@ class StandingTable:
 
     def of(self, concept):
         """The standing of a concept in told words."""
-        if isinstance(concept, str):
-            return self.of_name(concept)
-        if concept[0] == "some":
-            return self.lift(concept[1], self.of(concept[2]))
-        found = self.of(concept[1])
-        for part in concept[2:]:
-            found = self.meet(found, self.of(part))
-        return found
+        return self.first.of(concept), self.second.of(concept)
 
     def lost_names(self, standing):
         """Those of none and the told names that a concept lies within by the first book, not by the second one."""

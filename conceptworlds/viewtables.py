@@ -41,27 +41,42 @@ class ViewTable:
         return found
 
     def of_name(self, name):
-        """The view of all, or of a told name."""
-        return self._make(self.kinds.of_term(name), 0)
+        """The view of all, of none, or of a name; one that is no term says no more than all."""
+        return self.make(self.kinds.of_name(name), 0)
+
+    def of(self, concept):
+        """The view of a concept."""
+        if isinstance(concept, str):
+            return self.of_name(concept)
+        if concept[0] == "some":
+            return self.lift(concept[1], self.of(concept[2]))
+        found = self.of(concept[1])
+        for part in concept[2:]:
+            found = self.meet(found, self.of(part))
+        return found
 
     def meet(self, one, other):
         """The view of the and of two concepts, of their views."""
-        return self._make(self.kinds.meet(one[0], other[0]), one[1] | other[1])
+        return self.make(self.kinds.meet(one[0], other[0]), one[1] | other[1])
 
     def lift(self, role, view):
-        """The view of the some with a role and a concept, of the view of this.
+        """The view of the some with a role and a concept, of the view of this."""
+        return self.make(self.kinds.lift(role, view[0]), self.led_pairs(role, self.things_of(view), view[1]))
 
-        The edge to the concept's thing is one by each role that the role is under, and by one that passes
-        it leads on to where edges by this role lead from there.
+    def led_pairs(self, role, things, pairs):
+        """The pairs of a some with a role, of the things and the pairs of its part.
+
+        The edge to the part's thing is one by each role that the role is under, and by one that passes
+        it leads on to where edges by this role lead from there. A role that is none of the table's has no pairs.
         """
-        kind, things, pairs = self.kinds.lift(role, view[0]), self.things_of(view), 0
-        for upper in self._roles.over(role):
-            pairs = pairs | things << self._starts[upper]
+        found = 0
+        for upper in [one for one in self._roles.over(role) if one in self._starts]:
+            found = found | things << self._starts[upper]
             if upper in self._roles.passing:
-                ends = view[1] >> self._starts[upper] & self._every_thing
+                ends = pairs >> self._starts[upper] & self._every_thing
                 for last in self._roles.over(upper):
-                    pairs = pairs | ends << self._starts[last]
-        return self._make(kind, pairs)
+                    found = found | ends << self._starts[last]
+        return found
 
     def things_of(self, view):
         """The set of the things so that the concept lies within each concept in told words in which the thing is."""
@@ -112,7 +127,7 @@ class ViewTable:
             self._implied[kind] = pairs
         return self._implied[kind]
 
-    def _make(self, kind, pairs):
+    def make(self, kind, pairs):
         """The view of a concept with a kind, and with some pairs, to which others may have to be put."""
         if self.kinds.is_dead(kind):
             return self.dead

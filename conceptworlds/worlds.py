@@ -108,6 +108,12 @@ def need_thing(thing, world):
         raise BadThing("not a thing of the world")
 
 
+def told_part(world, words):
+    """A world with only its told names and its edges by told roles."""
+    names = [tuple([name for name in row if name in words[0]]) for row in world.names()]
+    return World(names, [edge for edge in world.edges() if edge[1] in words[1]])
+
+
 def pair_edges(ahead, others_ahead, many):
     """The edges of the product of two worlds of which the second one has so many things."""
     found = []
