@@ -178,6 +178,9 @@ def rename_told(words, others):
     return tuple(tuple(sorted(others.get(word, word) for word in row)) for row in words)
 
 
+BAD_BOOKS = [None, 1, True, "a", {}, (None,), [None], [("within", "a")], [("passes", "all")], [("within", "a", "b", "c")],
+             [["within", "a", "b"]], [("below", "r")], [("itself", "R")], [("within", "a", ("and", "b"))]]
+
 # Other words in another order; the names of the one are roles of the other.
 OTHERS = {"a": "z", "b": "s", "c": "m", "r": "y", "s": "b", "t": "a"}
 
@@ -197,6 +200,32 @@ def unravelled(world, thing, depth):
     if depth:
         pieces += [("some", role, unravelled(world, y, depth - 1)) for x, role, y in world.edges() if x == thing]
     return ("and", "all", "all", *pieces)
+
+
+def seen_in_words(world, thing, depth, words):
+    """The concept of all that can be seen from a thing at a depth at most, in told words."""
+    pieces = [name for name in world.names()[thing] if name in words[0]]
+    if depth:
+        pieces += [("some", role, seen_in_words(world, y, depth - 1, words))
+                   for x, role, y in world.edges() if x == thing and role in words[1]]
+    return ("and", "all", "all", *pieces)
+
+
+def keeping_world(chance, book, most=4):
+    """A world, made by chance, that keeps a book; None, if none is found."""
+    for _ in range(30):
+        world = chance.world(most)
+        world = World(world.names(), slow_closing(book, len(world), world.edges()))
+        if all(slow_keeps(world, rule) for rule in book):
+            return world
+    return None
+
+
+def shuffled(book, chance):
+    """The rules of a book in another order, some of them twice."""
+    rules = [*book, *[rule for rule in book if chance.random.random() < 0.5]]
+    chance.random.shuffle(rules)
+    return rules
 
 
 def in_order(concept):

@@ -4,10 +4,13 @@ import copy
 import unittest
 
 from conceptworlds import answering, books, cheapest, concepts, exploring, following, kinds, leanest, learning, missing
+from conceptworlds import defining, leasts, naming, sharing, views, weaker
 from conceptworlds import parts, plain, questions, reduced, rising, saying, standings, taking, toldworlds, wordrules, worlds
 from conceptworlds.errors import BadBook, BadConcept, BadPrices, BadThing, BadWords, BadWorld, ConceptError, NotWithin, TooLarge
 from conceptworlds.answering import Answers, Impossible
 from conceptworlds.cheapest import Cheapest
+from conceptworlds.defining import Between, NoneBetween, Said, Unsaid
+from conceptworlds.leasts import Endless, Least
 from conceptworlds.following import Fails, Follows
 from conceptworlds.missing import Missing
 from conceptworlds.parts import Enough
@@ -16,6 +19,7 @@ from conceptworlds.questions import Exact, Ring
 from conceptworlds.rising import Ladder
 from conceptworlds.saying import Loses, Says
 from conceptworlds.taking import Apart, TakenIn
+from conceptworlds.weaker import Weaker
 from conceptworlds.wordrules import WorldRules
 from conceptworlds.worlds import World
 
@@ -53,11 +57,18 @@ CALLS = [
     (rising.ladder, (CONCEPT, "all")), (missing.missing, (BOOK, WORLD, ("and", "c", "b"), 0, ("a", "c"))),
     (learning.learn, (lambda concept: concept == "none", lambda concept: None)),
     (exploring.explore, (WORDS, refute)),
+    (views.view, (BOOK[3:], WORLD, CONCEPT)), (views.view, (BOOK[3:], WORLD, "none")), (views.step, (WORLD, 1, ["a", "b", CONCEPT])),
+    (leasts.least_of, (BOOK[3:], WORLD, 0)), (leasts.least_of, (BOOK[3:], World([("b",)], [(0, "r", 0)]), 0)),
+    (leasts.least_in_depth, (WORLD, 0, 3)), (sharing.behind, (WORLD, 1)), (sharing.shared, (BOOK, "a", CONCEPT, "none")),
+    (sharing.special, (BOOK, WORLD, 0)), (sharing.told_data, (BOOK, WORLD)), (sharing.shared_things, (BOOK, WORLD, (0, 1))),
+    (weaker.weaker, (BOOK, 0, "a", CONCEPT)), (weaker.weaker, (BOOK, 0, "none", "c")), (defining.judge_said, (BOOK, "a", WORDS)),
+    (defining.judge_said, (BOOK, "a", (("b",), ("r",)))), (defining.is_said, (BOOK, "a", WORDS)), (defining.between, (BOOK, "a", ("some", "r", "all"), WORDS)),
+    (defining.between, (BOOK, "a", ("some", "r", "all"), (("b",), ("s",)))), (naming.name_order, (BOOK, ("a", "b", "c"))),
 ]
 
 # The attributes of evidence that have lists, or other evidence.
 LISTS = ("pairs", "steps", "rules", "concepts", "says", "losses", "questions", "low", "ring", "high", "bounds", "nodes",
-         "things", "depths", "explains", "clashes", "unknown")
+         "things", "depths", "explains", "clashes", "unknown", "lost", "kept")
 
 
 def spoil(found):
@@ -104,7 +115,11 @@ class Conventions(unittest.TestCase):
                 lambda: Answers([], [], [], World([()], [])), lambda: Answers([], [], [0], World([()], [])), lambda: Answers([0], [], [], World([()], [])),
                 lambda: Answers([], ["a"], [], World([()], [])), lambda: Answers([], [], [], World([("a",)], [])), lambda: Impossible(0, "a"),
                 lambda: Impossible(1, "a"), lambda: Impossible(0, "b"), lambda: Ladder(["all"]), lambda: Ladder([]), lambda: Missing([], [], []),
-                lambda: Missing([()], [], []), lambda: Missing([], [()], []), lambda: Missing([], [], [((), World([()], []))])]
+                lambda: Missing([()], [], []), lambda: Missing([], [()], []), lambda: Missing([], [], [((), World([()], []))]),
+                lambda: Least("a", 0), lambda: Least("a", 1), lambda: Least("b", 0), lambda: Endless([]), lambda: Endless(["a"]), lambda: Weaker([], []),
+                lambda: Weaker([("a", Fails(WORLD, 0))], []), lambda: Weaker([("a", Fails(WORLD, 1))], []), lambda: Weaker([], [("a", Follows([]))]),
+                lambda: Said("a", 0), lambda: Said("a", 1), lambda: Said("b", 0), lambda: Unsaid([]), lambda: Unsaid(["a"]), lambda: Between("a", 0),
+                lambda: Between("a", 1), lambda: Between("b", 0), lambda: NoneBetween([]), lambda: NoneBetween(["a"])]
         for at, one in enumerate(made):
             for place, other in enumerate(made):
                 self.assertIs(one() == other(), at == place)
@@ -121,7 +136,11 @@ class Conventions(unittest.TestCase):
                 (parts.cheapest_part(BOOK, (("a", "b"), ("r",)), {0: 1, 3: 2}), (BOOK, (("a", "b"), ("r",)), {0: 1, 3: 2})),
                 (cheapest.cheapest(BOOK, "a", PRICES, PRICES), (BOOK, "a", PRICES, PRICES)), (plain.judge_plain(CONCEPT, "a"), (CONCEPT, "a")),
                 (plain.judge_plain("a", CONCEPT), ("a", CONCEPT)), (answering.answer(BOOK, WORLD, CONCEPT), (BOOK, WORLD, CONCEPT)),
-                (rising.ladder(CONCEPT, "a"), (CONCEPT, "a")), (missing.missing(BOOK, WORLD, "c", 0, ("c",)), (BOOK, WORLD, "c", 0, ("c",)))]:
+                (rising.ladder(CONCEPT, "a"), (CONCEPT, "a")), (missing.missing(BOOK, WORLD, "c", 0, ("c",)), (BOOK, WORLD, "c", 0, ("c",))),
+                (leasts.least_of(BOOK[3:], WORLD, 0), (BOOK[3:], WORLD, 0)), (leasts.least_of([], WORLD, 2), ([], WORLD, 2)),
+                (weaker.weaker(BOOK, 0, "a", CONCEPT), (BOOK, 0, "a", CONCEPT)), (defining.judge_said(BOOK, "a", WORDS), (BOOK, "a", WORDS)),
+                (defining.judge_said(BOOK, "a", (("b",), ())), (BOOK, "a", (("b",), ()))), (defining.between(BOOK, "a", "all", WORDS), (BOOK, "a", "all", WORDS)),
+                (defining.between(BOOK, "a", "a", ((), ())), (BOOK, "a", "a", ((), ())))]:
             before = copy.deepcopy(evidence)
             self.assertIs(evidence.shows(*arguments), True)
             self.assertEqual(evidence, before)

@@ -88,6 +88,44 @@ EXAMPLES = {
 >>> [found.things, found.shows(book, data, 'b'), is_possible([*book, ('within', 'b', 'none')], data)]
 [[0, 1, 2], True, False]
 """,
+    "views": r"""
+>>> from conceptworlds.views import step, view
+>>> from conceptworlds.worlds import World
+>>> ring = World([()], [(0, 'r', 0)])
+>>> [view([('itself', 'r')], ring, 'all'), view([], ring, 'all'), step(ring, 0, ['a'])]
+[(('all',), (0,), (('r', 0),)), (('all',), (), ()), ('some', 'r', 'a')]
+""",
+    "leasts": r"""
+>>> from conceptworlds.leasts import least_of
+>>> from conceptworlds.worlds import World
+>>> ring = World([()], [(0, 'r', 0)])
+>>> endless, least = least_of([], ring, 0), least_of([('itself', 'r')], ring, 0)
+>>> [endless.shows([], ring, 0), least.depth, least.shows([('itself', 'r')], ring, 0)]
+[True, 0, True]
+""",
+    "sharing": r"""
+>>> from conceptworlds.sharing import shared
+>>> world, thing = shared([('within', 'robin', 'bird'), ('within', 'wren', 'bird')], 'robin', 'wren')
+>>> [world.names(), world.edges(), thing]
+[[('bird',)], [], 0]
+""",
+    "weaker": r"""
+>>> from conceptworlds.weaker import weaker
+>>> found = weaker([('within', 'a', ('and', 'b', 'c'))], 0, 'a', 'b')
+>>> [[pair[0] for pair in found.lost], [pair[0] for pair in found.kept]]
+[['c'], ['b']]
+""",
+    "defining": r"""
+>>> from conceptworlds.defining import is_said
+>>> book = [('within', 'a', ('some', 'r', 'b')), ('within', ('some', 'r', 'b'), 'a')]
+>>> [is_said(book, 'a', (('b',), ('r',))), is_said(book, 'a', ((), ('r',)))]
+[True, False]
+""",
+    "naming": r"""
+>>> from conceptworlds.naming import name_order
+>>> name_order([('within', 'wren', 'bird'), ('within', 'bird', 'thing')], ('bird', 'thing', 'wren'))
+{'bird': ('thing',), 'thing': (), 'wren': ('bird',)}
+""",
 }
 
 

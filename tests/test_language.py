@@ -31,6 +31,12 @@ INTERFACE = {
     "learning": ["learn"],
     "missing": ["Missing", "missing"],
     "exploring": ["explore"],
+    "views": ["view", "step"],
+    "leasts": ["Least", "Endless", "least_of", "least_in_depth"],
+    "sharing": ["behind", "shared", "special", "told_data", "shared_things"],
+    "weaker": ["Weaker", "weaker"],
+    "defining": ["Said", "Unsaid", "judge_said", "is_said", "Between", "NoneBetween", "between"],
+    "naming": ["name_order"],
 }
 METHODS = {
     "World": ["size", "names", "edges", "things_in", "words", "__len__", "__iter__", "__contains__", "__eq__"],
@@ -39,7 +45,9 @@ METHODS = {
     "Loses": ["shows", "__eq__"], "Enough": ["shows", "__eq__"], "Exact": ["shows", "__eq__"], "Ring": ["shows", "__eq__"],
     "Cheapest": ["shows", "__eq__"], "Mapped": ["shows", "__eq__"], "Unmapped": ["shows", "__eq__"],
     "Answers": ["shows", "__eq__"], "Impossible": ["shows", "__eq__"], "Ladder": ["shows", "__eq__"],
-    "Missing": ["shows", "__eq__"],
+    "Missing": ["shows", "__eq__"], "Least": ["shows", "__eq__"], "Endless": ["shows", "__eq__"],
+    "Weaker": ["shows", "__eq__"], "Said": ["shows", "__eq__"], "Unsaid": ["shows", "__eq__"],
+    "Between": ["shows", "__eq__"], "NoneBetween": ["shows", "__eq__"],
 }
 
 
