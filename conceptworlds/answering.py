@@ -79,17 +79,22 @@ class Impossible:
     def shows(self, book, data, concept):
         """Whether the thing of the data is in the concept, which is nothing by the book."""
         _need_question(book, data, concept)
-        if not is_thing(self.thing, len(data)) or not is_without_none(self.concept):
-            return False
-        return bool(data.graph().holding(self.concept) >> self.thing & 1) and lies_within(book, self.concept, "none")
+        return shows_impossible(book, data, self.thing, self.concept)
 
 
-def _impossible(kinds):
-    """An Impossible for data that are not possible, with a concept of as little depth as can be."""
+def shows_impossible(book, data, thing, concept):
+    """Whether a concept without none is nothing by a book, and a number is that of a thing of data that is in it."""
+    if not is_thing(thing, len(data)) or not is_without_none(concept):
+        return False
+    return bool(data.graph().holding(concept) >> thing & 1) and lies_within(book, concept, "none")
+
+
+def find_impossible(kinds):
+    """A thing of data that are not possible, and a concept that shows it, of as little depth as can be."""
     goal = kinds.table.bit_of("none")
     depths = [(kinds.depth_of(thing, goal), thing) for thing in range(len(kinds.data))]
     thing = min([pair for pair in depths if pair[0] is not None])[1]
-    return Impossible(thing, Explaining(kinds).explain(thing, goal))
+    return thing, Explaining(kinds).explain(thing, goal)
 
 
 def answer(book, data, concept):
@@ -97,7 +102,8 @@ def answer(book, data, concept):
     _need_question(book, data, concept)
     kinds = DataKinds(KindTable(book, [concept]), data)
     if not kinds.are_possible():
-        return _impossible(kinds)
+        thing, told = find_impossible(kinds)
+        return Impossible(thing, told)
     goal, explaining = kinds.table.bit_of(concept), Explaining(kinds)
     things = [thing for thing in range(len(data)) if lies_in(goal, kinds.kind(thing))]
     concepts = [explaining.explain(thing, goal) for thing in things]

@@ -98,13 +98,13 @@ class Unfolding:
             many = [1 + sum([many[end] for _, end in row]) for row in self._steps]
         return many[thing]
 
-    def form(self, thing, depth):
+    def form_of(self, thing, depth):
         """The number of the reduced form of the unfolding of a thing, down to a depth."""
         key = thing, depth
         if key not in self._found:
             children = []
             if depth:
-                children = [(role, self.form(end, depth - 1)) for role, end in self._steps[thing]]
+                children = [(role, self.form_of(end, depth - 1)) for role, end in self._steps[thing]]
             self._found[key] = self.forms.make(self._rows[thing], children)
         return self._found[key]
 
@@ -118,4 +118,4 @@ def least_in_depth(world, thing, depth):
     unfolding = Unfolding(world)
     if unfolding.many_nodes(thing, depth) > MOST_NODES:
         raise TooLarge("the unfolding has more than 2000 nodes")
-    return unfolding.forms.concepts[unfolding.form(thing, depth)]
+    return unfolding.forms.concepts[unfolding.form_of(thing, depth)]

@@ -54,7 +54,7 @@ def special(book, data, thing):
     return data_world(_possible_kinds(book, data), data.names(), []), thing
 
 
-def _told_data(book, data):
+def world_of_data(book, data):
     """The told world of what is known to be data, which must be possible."""
     kinds = _possible_kinds(book, data)
     table, program = kinds.table, kinds.table.program
@@ -66,7 +66,7 @@ def told_data(book, data):
     """The told world of data: their things and the terms of the book, with what is certain of them."""
     need_book(book)
     need_world(data)
-    return _told_data(book, data)
+    return world_of_data(book, data)
 
 
 def are_things(things, data):
@@ -95,4 +95,4 @@ def shared_things(book, data, things):
     need_book(book)
     need_world(data)
     need_good_things(things, data)
-    return shared_part(_told_data(book, data), things)
+    return shared_part(world_of_data(book, data), things)

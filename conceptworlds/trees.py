@@ -60,7 +60,7 @@ def _places_of(nodes):
     return places
 
 
-def _image_masks(nodes, others):
+def image_masks(nodes, others):
     """For each node of a tree, the set of the nodes of another tree that can be its image, by all that is below it."""
     named, placed = {}, {}
     for at, place in enumerate(_places_of(others)):
@@ -79,7 +79,7 @@ def _image_masks(nodes, others):
 
 def find_images(nodes, others):
     """For each node of a tree a node of another tree, its image, that of the root the root; None, if there are none."""
-    masks = _image_masks(nodes, others)
+    masks = image_masks(nodes, others)
     if not masks[0] & 1:
         return None
     ends = [{} for _ in others]

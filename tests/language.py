@@ -16,7 +16,7 @@ isspace isupper items join keys ljust lower lstrip partition pop remove replace 
 rsplit rstrip setdefault split splitlines startswith strip update upper values zfill bit_length add discard""".split())
 DUNDERS = set("__init__ __eq__ __repr__ __str__ __len__ __iter__ __contains__ __bool__".split())
 STATEMENTS = (ast.Assign, ast.AugAssign, ast.If, ast.While, ast.For, ast.Return, ast.Break, ast.Continue, ast.Pass,
-              ast.Raise, ast.Delete, ast.Expr, ast.FunctionDef, ast.ClassDef, ast.ImportFrom)
+              ast.Raise, ast.Delete, ast.Expr, ast.FunctionDef, ast.ClassDef, ast.ImportFrom, ast.Try)
 UNUSED = set("register mro elements open input law version_info with_traceback add_note".split())
 NOT_NAMES = set("""attrgetter breakpoint builtins compile copyright credits delattr dir eval exec exit gc getattr
 globals hasattr help id importlib license locals methodcaller os quit setattr super type vars sys""".split())
@@ -25,7 +25,7 @@ namedtuple NamedTuple TypedDict TYPE_CHECKING abstractmethod""".split())
 TAKEN_ATTRIBUTES = set("""items keys values pop update append clear extend insert remove reverse setdefault sort args
 encode decode hex fromhex format format_map mro""".split())
 FORBIDDEN = (ast.AsyncFunctionDef, ast.Global, ast.GeneratorExp, ast.Div, ast.Await, ast.Yield, ast.YieldFrom,
-             ast.Try, ast.With, ast.AnnAssign, ast.Import, ast.NamedExpr, ast.Match, ast.Lambda)
+             ast.With, ast.AnnAssign, ast.Import, ast.NamedExpr, ast.Match, ast.Lambda)
 
 
 def files():
@@ -133,7 +133,7 @@ def check_functions(tree):
             yield f"L10 function {node.name}"
         if node.name.startswith("__") and node.name not in DUNDERS:
             yield f"L5 {node.name}"
-        if any(not isinstance(one, ast.Name) or one.id != "property" for one in node.decorator_list):
+        if any(not isinstance(one, ast.Name) or one.id not in ("property", "classmethod") for one in node.decorator_list):
             yield f"L4 decorator over {node.name}"
         names = assigned(node)
         for name in [*names, node.name]:
@@ -235,6 +235,27 @@ def check_nodes(tree, methods, attributes, properties):
                     yield f"L22 {where}"
             if node.func.id == "set" and id(node) not in inside:
                 yield f"L24 {where}"
+
+
+def is_simple(node):
+    """Whether a value is a name, an attribute of a name, or a literal without a sign."""
+    return is_plain_value(node) and not isinstance(node, (ast.List, ast.Tuple))
+
+
+def check_tries(tree):
+    """L6 Finally and L19: a try has no handlers, but a finally that only assigns; what it reads is assigned before."""
+    for function in [node for node in ast.walk(tree) if isinstance(node, ast.FunctionDef)]:
+        for node in [one for one in ast.walk(function) if isinstance(one, ast.Try)]:
+            if node.handlers or not node.finalbody:
+                yield f"L19 line {node.lineno}"
+            before = {arg.arg for arg in function.args.args}
+            before |= {one.id for one in ast.walk(function) if isinstance(one, ast.Name)
+                       and isinstance(one.ctx, ast.Store) and one.lineno < node.lineno}
+            for row in node.finalbody:
+                if not isinstance(row, ast.Assign) or len(row.targets) > 1 or not is_simple(row.targets[0]) or not is_simple(row.value):
+                    yield f"L6 finally in line {row.lineno}"
+                if any(isinstance(one, ast.Name) and one.id not in before for one in ast.walk(row)):
+                    yield f"L6 finally in line {row.lineno}"
 
 
 CHANGES = set("append extend insert pop remove clear update setdefault reverse sort add discard".split())
@@ -348,6 +369,6 @@ def complaints():
         tree = ast.parse(text)
         for told in [*check_text(path, text), *check_module(path, tree), *check_functions(tree),
                      *check_nodes(tree, methods, attributes, properties), *check_strings(tree),
-                     *check_comprehensions(tree), *check_walks(tree)]:
+                     *check_comprehensions(tree), *check_walks(tree), *check_tries(tree)]:
             found.append(f"{path.name}: {told}")
     return found
