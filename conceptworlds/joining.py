@@ -66,23 +66,28 @@ def _ways(rows):
 
 
 def _reached(graphs, things):
-    """The ascending list of the tuples of things of some worlds that are reached, in their product, from one of them.
+    """The tuples of things of some worlds that are reached, in their product, from one of them.
 
-    What edges by a role lead to from a tuple are all tuples of some sets: it is enough to look at these once. The
-    last things are kept as sets, for each of the tuples of the other ones.
+    They are returned as a dict from what stands before the last thing to the set of last things. What edges by a role
+    lead to from a tuple are all tuples of some sets, so that all with the same beginning can be looked at together.
     """
-    found, known, waiting = {things[:-1]: 1 << things[-1]}, {}, [things]
+    found, known = {things[:-1]: 1 << things[-1]}, {}
+    waiting, done = [things[:-1]], {}
     while waiting:
-        one = waiting.pop()
+        start = waiting.pop()
+        fresh = found[start] & ~done.get(start, 0)
+        done[start] = found[start]
         for role in graphs[0].ahead:
-            box = tuple([graph.targets(role, thing) for graph, thing in zip(graphs, one)])
-            if box not in known and 0 not in box:
-                known[box] = True
-                for way in _ways([bits(mask) for mask in box[:-1]]):
-                    fresh = box[-1] & ~found.get(way, 0)
-                    found[way] = found.get(way, 0) | box[-1]
-                    waiting.extend([(*way, end) for end in bits(fresh)])
-    return sorted([(*way, end) for way, mask in found.items() for end in bits(mask)])
+            box, ends = tuple([graph.targets(role, thing) for graph, thing in zip(graphs, start)]), 0
+            for end in bits(fresh):
+                ends = ends | graphs[-1].targets(role, end)
+            if 0 not in box and ends & ~known.get(box, 0):
+                known[box] = known.get(box, 0) | ends
+                for way in _ways([bits(mask) for mask in box]):
+                    if ends & ~found.get(way, 0):
+                        found[way] = found.get(way, 0) | ends
+                        waiting.append(way)
+    return found
 
 
 def _joined(first, second, pairs):
@@ -107,6 +112,11 @@ def _joined(first, second, pairs):
     return lean, {pair: lean.places[number] for pair, number in numbers.items()}
 
 
+def _each_once(values):
+    """Some numbers, each of them where it first comes."""
+    return list({value: True for value in values})
+
+
 def shared_world(worlds, things):
     """The leanest world of the part, behind things of some worlds, of the product of these, and the class of these.
 
@@ -115,12 +125,22 @@ def shared_world(worlds, things):
     """
     parts = [part_behind(world, thing) for world, thing in zip(worlds, things)]
     start = tuple([order.index(thing) for (_, order), thing in zip(parts, things)])
-    order = _reached([part.graph() for part, _ in parts], start)
+    found = _reached([part.graph() for part, _ in parts], start)
     leans = [Lean(part) for part, _ in parts]
+    if len(leans) == 1:
+        chosen = _each_once([leans[0].places[end] for end in bits(found[()])])
+        return leans[0].leanest_part(chosen), chosen.index(leans[0].places[start[0]])
+    order = sorted(found)
     lean, places = leans[0], [leans[0].places[one[0]] for one in order]
-    for at in range(1, len(leans)):
+    for at in range(1, len(leans) - 1):
         pairs = [(place, leans[at].places[one[at]]) for place, one in zip(places, order)]
         lean, numbers = _joined(lean, leans[at], pairs)
         places = [numbers[pair] for pair in pairs]
-    chosen = list({place: True for place in places})
-    return lean.leanest_part(chosen), chosen.index(places[order.index(start)])
+    pairs = {}
+    for place, one in zip(places, order):
+        for end in bits(found[one]):
+            pairs[place, leans[-1].places[end]] = True
+    lean, numbers = _joined(lean, leans[-1], pairs)
+    chosen = _each_once([numbers[pair] for pair in pairs])
+    last = places[order.index(start[:-1])], leans[-1].places[start[-1]]
+    return lean.leanest_part(chosen), chosen.index(numbers[last])
