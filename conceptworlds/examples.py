@@ -70,6 +70,18 @@ class Mixed:
         return TakenIn(self.pairs).shows(world, thing, told, self.thing, words)
 
 
+def _needed_pieces(pieces, bad):
+    """Pairs of a set of things and of a piece, without those without which the others have no bad thing, too."""
+    kept = list(pieces)
+    for piece in pieces:
+        rest, left = [other for other in kept if other[1] != piece[1]], bad
+        for held, _ in rest:
+            left = left & held
+        if not left:
+            kept = rest
+    return kept
+
+
 def separate(book, data, good, bad, words):
     """A Separated for good and bad things of data, or a Mixed."""
     told = _need_question(book, data, good, bad, words)
@@ -78,9 +90,11 @@ def separate(book, data, good, bad, words):
         if parting.level() is None:
             return Mixed(thing, parting.together())
     levels = sorted([(-parting.level(), at) for at, parting in enumerate(partings)])
-    pieces, held = [], mask_of(bad)
+    pieces, left = [], mask_of(bad)
     for _, at in levels:
-        if held >> bad[at] & 1:
-            pieces.append(partings[at].refutation())
-            held = held & told.graph().holding(pieces[-1])
-    return Separated(conjoin(pieces), max([0, *[-level for level, _ in levels]]))
+        if left >> bad[at] & 1:
+            piece = partings[at].refutation()
+            pieces.append((told.graph().holding(piece), piece))
+            left = left & pieces[-1][0]
+    concepts = [piece for _, piece in _needed_pieces(pieces, mask_of(bad))]
+    return Separated(conjoin(concepts), max([0, *[-level for level, _ in levels]]))

@@ -4,12 +4,15 @@ import copy
 import unittest
 
 from conceptworlds import answering, books, cheapest, concepts, exploring, following, kinds, leanest, learning, missing
-from conceptworlds import defining, leasts, naming, sharing, views, weaker
+from conceptworlds import defining, examples, leasts, naming, patterns, reading, sharing, supposing, views, weaker
 from conceptworlds import parts, plain, questions, reduced, rising, saying, standings, taking, toldworlds, wordrules, worlds
 from conceptworlds.errors import BadBook, BadConcept, BadPrices, BadThing, BadWords, BadWorld, ConceptError, NotWithin, TooLarge
 from conceptworlds.answering import Answers, Impossible
 from conceptworlds.cheapest import Cheapest
 from conceptworlds.defining import Between, NoneBetween, Said, Unsaid
+from conceptworlds.desks import Desk
+from conceptworlds.examples import Mixed, Separated
+from conceptworlds.ideas import Idea
 from conceptworlds.leasts import Endless, Least
 from conceptworlds.following import Fails, Follows
 from conceptworlds.missing import Missing
@@ -18,6 +21,7 @@ from conceptworlds.plain import Mapped, Unmapped
 from conceptworlds.questions import Exact, Ring
 from conceptworlds.rising import Ladder
 from conceptworlds.saying import Loses, Says
+from conceptworlds.supposing import CanBe, CannotBe
 from conceptworlds.taking import Apart, TakenIn
 from conceptworlds.weaker import Weaker
 from conceptworlds.wordrules import WorldRules
@@ -64,6 +68,11 @@ CALLS = [
     (weaker.weaker, (BOOK, 0, "a", CONCEPT)), (weaker.weaker, (BOOK, 0, "none", "c")), (defining.judge_said, (BOOK, "a", WORDS)),
     (defining.judge_said, (BOOK, "a", (("b",), ("r",)))), (defining.is_said, (BOOK, "a", WORDS)), (defining.between, (BOOK, "a", ("some", "r", "all"), WORDS)),
     (defining.between, (BOOK, "a", ("some", "r", "all"), (("b",), ("s",)))), (naming.name_order, (BOOK, ("a", "b", "c"))),
+    (reading.read, ("a & some r (b & all)",)), (examples.separate, (BOOK, WORLD, (0,), (2,), WORDS)), (examples.separate, (BOOK, WORLD, (0,), (1,), WORDS)),
+    (supposing.supposed, (WORLD, 0, CONCEPT)), (supposing.suppose, (BOOK, WORLD, 0, CONCEPT)), (supposing.suppose, (BOOK, WORLD, 1, "c")),
+    (patterns.fillings, (("and", "x", CONCEPT), "x", CONCEPT)), (patterns.fills, (("and", "x", CONCEPT), "x", CONCEPT, "a")),
+    (lambda book, data: Desk(book, data).rules_now(), (BOOK, WORLD)), (lambda book, data: Desk(book, data).data_now(), (BOOK, WORLD)),
+    (lambda book, data, concept: Desk(book, data).answers(concept), (BOOK, WORLD, "b")), (Idea, (CONCEPT,)), (lambda told: list(Idea(told)), (CONCEPT,)),
 ]
 
 # The attributes of evidence that have lists, or other evidence.
@@ -119,7 +128,9 @@ class Conventions(unittest.TestCase):
                 lambda: Least("a", 0), lambda: Least("a", 1), lambda: Least("b", 0), lambda: Endless([]), lambda: Endless(["a"]), lambda: Weaker([], []),
                 lambda: Weaker([("a", Fails(WORLD, 0))], []), lambda: Weaker([("a", Fails(WORLD, 1))], []), lambda: Weaker([], [("a", Follows([]))]),
                 lambda: Said("a", 0), lambda: Said("a", 1), lambda: Said("b", 0), lambda: Unsaid([]), lambda: Unsaid(["a"]), lambda: Between("a", 0),
-                lambda: Between("a", 1), lambda: Between("b", 0), lambda: NoneBetween([]), lambda: NoneBetween(["a"])]
+                lambda: Between("a", 1), lambda: Between("b", 0), lambda: NoneBetween([]), lambda: NoneBetween(["a"]), lambda: Separated("a", 0),
+                lambda: Separated("a", 1), lambda: Separated("b", 0), lambda: Mixed(0, []), lambda: Mixed(1, []), lambda: Mixed(0, [(0, 0)]),
+                lambda: CanBe(WORLD), lambda: CanBe(World([()], [])), lambda: CannotBe(0, "a"), lambda: CannotBe(1, "a"), lambda: CannotBe(0, "b")]
         for at, one in enumerate(made):
             for place, other in enumerate(made):
                 self.assertIs(one() == other(), at == place)
@@ -140,7 +151,9 @@ class Conventions(unittest.TestCase):
                 (leasts.least_of(BOOK[3:], WORLD, 0), (BOOK[3:], WORLD, 0)), (leasts.least_of([], WORLD, 2), ([], WORLD, 2)),
                 (weaker.weaker(BOOK, 0, "a", CONCEPT), (BOOK, 0, "a", CONCEPT)), (defining.judge_said(BOOK, "a", WORDS), (BOOK, "a", WORDS)),
                 (defining.judge_said(BOOK, "a", (("b",), ())), (BOOK, "a", (("b",), ()))), (defining.between(BOOK, "a", "all", WORDS), (BOOK, "a", "all", WORDS)),
-                (defining.between(BOOK, "a", "a", ((), ())), (BOOK, "a", "a", ((), ())))]:
+                (defining.between(BOOK, "a", "a", ((), ())), (BOOK, "a", "a", ((), ()))), (supposing.suppose(BOOK, WORLD, 1, "a"), (BOOK, WORLD, 1, "a")),
+                (supposing.suppose(BOOK, WORLD, 1, "c"), (BOOK, WORLD, 1, "c")), (examples.separate(BOOK, WORLD, (0,), (2,), WORDS), (BOOK, WORLD, (0,), (2,), WORDS)),
+                (examples.separate(BOOK, WORLD, (0,), (1,), (("a",), ())), (BOOK, WORLD, (0,), (1,), (("a",), ())))]:
             before = copy.deepcopy(evidence)
             self.assertIs(evidence.shows(*arguments), True)
             self.assertEqual(evidence, before)

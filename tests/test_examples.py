@@ -126,6 +126,24 @@ EXAMPLES = {
 >>> name_order([('within', 'wren', 'bird'), ('within', 'bird', 'thing')], ('bird', 'thing', 'wren'))
 {'bird': ('thing',), 'thing': (), 'wren': ('bird',)}
 """,
+    "desks": r"""
+>>> from conceptworlds.desks import Desk
+>>> from conceptworlds.worlds import World
+>>> desk = Desk([('within', 'wren', 'bird')], World([('wren',)], []))
+>>> [desk.answers('bird'), desk.add_thing('bird'), desk.answers('bird'), desk.take(0), desk.answers('bird')]
+[[0], 1, [0, 1], ('within', 'wren', 'bird'), [1]]
+""",
+    "reading": r"""
+>>> from conceptworlds.reading import read
+>>> read('bird & some eats (worm & all)')
+('and', 'bird', ('some', 'eats', ('and', 'worm', 'all')))
+""",
+    "ideas": r"""
+>>> from conceptworlds.ideas import Idea
+>>> one, other = Idea.parsed('bird & some eats worm'), Idea('bird')
+>>> [one.inside(other), str(one.common(other)), len(one), list(one), one.covers('bird')]
+[True, 'bird', 2, ['bird', ('some', 'eats', 'worm')], False]
+""",
 }
 
 

@@ -37,6 +37,12 @@ INTERFACE = {
     "weaker": ["Weaker", "weaker"],
     "defining": ["Said", "Unsaid", "judge_said", "is_said", "Between", "NoneBetween", "between"],
     "naming": ["name_order"],
+    "desks": ["Desk"],
+    "reading": ["read"],
+    "ideas": ["Idea"],
+    "examples": ["Separated", "Mixed", "separate"],
+    "supposing": ["supposed", "CanBe", "CannotBe", "suppose"],
+    "patterns": ["fillings", "fills"],
 }
 METHODS = {
     "World": ["size", "names", "edges", "things_in", "words", "__len__", "__iter__", "__contains__", "__eq__"],
@@ -47,7 +53,11 @@ METHODS = {
     "Answers": ["shows", "__eq__"], "Impossible": ["shows", "__eq__"], "Ladder": ["shows", "__eq__"],
     "Missing": ["shows", "__eq__"], "Least": ["shows", "__eq__"], "Endless": ["shows", "__eq__"],
     "Weaker": ["shows", "__eq__"], "Said": ["shows", "__eq__"], "Unsaid": ["shows", "__eq__"],
-    "Between": ["shows", "__eq__"], "NoneBetween": ["shows", "__eq__"],
+    "Between": ["shows", "__eq__"], "NoneBetween": ["shows", "__eq__"], "Separated": ["shows", "__eq__"],
+    "Mixed": ["shows", "__eq__"], "CanBe": ["shows", "__eq__"], "CannotBe": ["shows", "__eq__"],
+    "Desk": ["rules_now", "data_now", "put", "take", "add_thing", "add_name", "add_edge", "answers", "trial", "keep"],
+    "Idea": ["given", "form", "__eq__", "__bool__", "__len__", "__iter__", "__str__", "weight", "inside", "covers", "also",
+             "common", "some", "parsed"],
 }
 
 
