@@ -4,8 +4,10 @@ from conceptworlds.books import need_book
 from conceptworlds.concepts import conjoin, depth_of, is_in_words, is_without_none, need_words
 from conceptworlds.errors import BadThing
 from conceptworlds.graphs import lies_in, mask_of
+from conceptworlds.joining import shared_classes, shared_world
 from conceptworlds.parting import Parting
-from conceptworlds.sharing import are_things, need_good_things, shared_part, world_of_data
+from conceptworlds.sharing import are_things, need_good_things, world_of_data
+from conceptworlds.simulating import found_pairs, takers
 from conceptworlds.taking import TakenIn
 from conceptworlds.worlds import need_world
 
@@ -24,10 +26,10 @@ def _need_question(book, data, good, bad, words):
     return world_of_data(book, data)
 
 
-def _partings(told, good, bad, words):
-    """For each bad thing, how the shared thing of the good ones comes apart from it."""
-    world, thing = shared_part(told, good)
-    return [Parting(world, thing, told, other, words) for other in bad]
+def _mixed(world, place, told, bad, words):
+    """A Mixed for the shared thing of the good things, and for a bad one by which it is taken in."""
+    masks = takers(world.graph(), told.graph(), words)
+    return Mixed(bad, found_pairs(world.graph(), told.graph(), masks, (place, bad), words[1]))
 
 
 class Separated:
@@ -48,7 +50,10 @@ class Separated:
         held = told.graph().holding(self.concept)
         if not lies_in(mask_of(good), held) or held & mask_of(bad) or self.depth != depth_of(self.concept):
             return False
-        return self.depth == max([0, *[parting.level() for parting in _partings(told, good, bad, words)]])
+        lean, chosen, place = shared_classes([told for _ in good], good)
+        thin = lean.thin_part(chosen)
+        levels = [Parting(thin, place, told, other, words).level() for other in bad]
+        return self.depth == max([0, *levels])
 
 
 class Mixed:
@@ -66,7 +71,7 @@ class Mixed:
         told = _need_question(book, data, good, bad, words)
         if self.thing not in bad:
             return False
-        world, thing = shared_part(told, good)
+        world, thing = shared_world([told for _ in good], good)
         return TakenIn(self.pairs).shows(world, thing, told, self.thing, words)
 
 
@@ -85,10 +90,17 @@ def _needed_pieces(pieces, bad):
 def separate(book, data, good, bad, words):
     """A Separated for good and bad things of data, or a Mixed."""
     told = _need_question(book, data, good, bad, words)
-    partings = _partings(told, good, bad, words)
-    for thing, parting in zip(bad, partings):
-        if parting.level() is None:
-            return Mixed(thing, parting.together())
+    lean, chosen, place = shared_classes([told for _ in good], good)
+    thin = lean.thin_part(chosen)
+    masks = takers(thin.graph(), told.graph(), words)
+    for thing in bad:
+        if masks[place] >> thing & 1:
+            return _mixed(lean.leanest_part(chosen), place, told, thing, words)
+    return _separated(told, bad, [Parting(thin, place, told, thing, words) for thing in bad])
+
+
+def _separated(told, bad, partings):
+    """A Separated, for how what the good things share comes apart from each of the bad things."""
     levels = sorted([(-parting.level(), at) for at, parting in enumerate(partings)])
     pieces, left = [], mask_of(bad)
     for _, at in levels:

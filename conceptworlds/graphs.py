@@ -28,20 +28,34 @@ class Graph:
         self.everything = (1 << len(names)) - 1
         self.named = {}
         self.ahead = {}
+        self._sources = {}
         for thing, row in enumerate(names):
             for name in row:
                 self.named[name] = self.named.get(name, 0) | 1 << thing
         for thing, role, other in edges:
-            rows = self.ahead.setdefault(role, {})
-            rows[thing] = rows.get(thing, 0) | 1 << other
+            self.put_edges(thing, role, 1 << other)
+
+    def put_edges(self, thing, role, ends):
+        """Puts edges by a role from a thing to a set of things, before anything is looked up."""
+        rows = self.ahead.setdefault(role, {})
+        rows[thing] = rows.get(thing, 0) | ends
 
     def behind(self, role, mask):
         """The set of the things that have an edge by a role into a set."""
-        found = 0
-        for thing, others in self.ahead.get(role, {}).items():
-            if others & mask:
-                found = found | 1 << thing
+        found, rows = 0, self.sources(role)
+        for thing in bits(mask):
+            found = found | rows.get(thing, 0)
         return found
+
+    def sources(self, role):
+        """A dict from the things to which edges by a role lead to the sets of the things from which they come."""
+        if role not in self._sources:
+            rows = {}
+            for thing, others in self.ahead.get(role, {}).items():
+                for end in bits(others):
+                    rows[end] = rows.get(end, 0) | 1 << thing
+            self._sources[role] = rows
+        return self._sources[role]
 
     def holding(self, concept):
         """The set of the things that are in a concept."""

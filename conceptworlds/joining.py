@@ -1,6 +1,6 @@
 """Products of worlds, as far as what is behind a thing, and as leanest worlds, without all of their edges."""
 
-from conceptworlds.graphs import bits, mask_of
+from conceptworlds.graphs import Graph, bits, mask_of
 from conceptworlds.leanest import alike
 from conceptworlds.worlds import World
 
@@ -22,16 +22,16 @@ def part_behind(world, thing):
 
 
 class Lean:
-    """The classes of alike things of a world, each with its names, and with those edges without which none is needed.
+    """The classes of alike things of a world, each with its names, and with no more edges than needed.
 
     These are the edges to classes that are not taken in by other ones to which there are edges by the same role.
+    The world is given by the names of its things and as a graph.
     rows has the names of the classes, places the class of each thing, and taken_by, for each class, the set of the
     classes by which it is taken in.
     """
 
-    def __init__(self, world):
-        groups, masks = alike(world)
-        names, graph = world.names(), world.graph()
+    def __init__(self, names, graph):
+        groups, masks = alike(graph)
         self.rows = [names[group[0]] for group in groups]
         self.places = [0 for _ in names]
         for place, group in enumerate(groups):
@@ -45,6 +45,14 @@ class Lean:
         """The classes of some things, without those that are taken in by others of them."""
         found = mask_of([self.places[thing] for thing in bits(things)])
         return [place for place in bits(found) if self.taken_by[place] & found == 1 << place]
+
+    def thin_part(self, chosen):
+        """A world with some classes, in their order, and with no more edges than needed for their concepts."""
+        numbers, edges = {place: number for number, place in enumerate(chosen)}, []
+        for place in chosen:
+            for role, ends in self.ends[place].items():
+                edges.extend([(numbers[place], role, numbers[end]) for end in ends])
+        return World([self.rows[place] for place in chosen], sorted(edges))
 
     def leanest_part(self, chosen):
         """The leanest world, as far as it has some classes, in their order."""
@@ -92,23 +100,26 @@ def _reached(graphs, things):
 
 def _joined(first, second, pairs):
     """The classes of the product of two lean worlds, as far as some pairs lead, and a dict from pairs to classes."""
-    numbers, order, edges = {}, [], []
-    for pair in pairs:
-        if pair not in numbers:
-            numbers[pair] = len(order)
-            order.append(pair)
+    order = list({pair: True for pair in pairs})
+    numbers, edges = {pair: number for number, pair in enumerate(order)}, []
     at = 0
     while at < len(order):
         one, other = order[at]
         for role, ends in first.ends[one].items():
+            reached = 0
             for end in _ways([ends, second.ends[other].get(role, [])]):
                 if end not in numbers:
                     numbers[end] = len(order)
                     order.append(end)
-                edges.append((at, role, numbers[end]))
+                reached = reached | 1 << numbers[end]
+            edges.append((at, role, reached))
         at = at + 1
     rows = [tuple([name for name in first.rows[one] if name in second.rows[other]]) for one, other in order]
-    lean = Lean(World(rows, sorted(edges)))
+    graph = Graph(rows, [])
+    for thing, role, reached in edges:
+        if reached:
+            graph.put_edges(thing, role, reached)
+    lean = Lean(rows, graph)
     return lean, {pair: lean.places[number] for pair, number in numbers.items()}
 
 
@@ -118,7 +129,13 @@ def _each_once(values):
 
 
 def shared_world(worlds, things):
-    """The leanest world of the part, behind things of some worlds, of the product of these, and the class of these.
+    """The leanest world of the part, behind things of some worlds, of the product of these, and the class of these."""
+    lean, chosen, place = shared_classes(worlds, things)
+    return lean.leanest_part(chosen), place
+
+
+def shared_classes(worlds, things):
+    """Classes of things with those of the product of some worlds, the list of these, and the place of some things' own.
 
     In the product the tuples of things have their numbers in ascending order. A tuple is in just the concepts in
     which its classes are, so that one world after the other can be joined as a lean one.
@@ -126,10 +143,10 @@ def shared_world(worlds, things):
     parts = [part_behind(world, thing) for world, thing in zip(worlds, things)]
     start = tuple([order.index(thing) for (_, order), thing in zip(parts, things)])
     found = _reached([part.graph() for part, _ in parts], start)
-    leans = [Lean(part) for part, _ in parts]
+    leans = [Lean(part.names(), part.graph()) for part, _ in parts]
     if len(leans) == 1:
         chosen = _each_once([leans[0].places[end] for end in bits(found[()])])
-        return leans[0].leanest_part(chosen), chosen.index(leans[0].places[start[0]])
+        return leans[0], chosen, chosen.index(leans[0].places[start[0]])
     order = sorted(found)
     lean, places = leans[0], [leans[0].places[one[0]] for one in order]
     for at in range(1, len(leans) - 1):
@@ -143,4 +160,4 @@ def shared_world(worlds, things):
     lean, numbers = _joined(lean, leans[-1], pairs)
     chosen = _each_once([numbers[pair] for pair in pairs])
     last = places[order.index(start[:-1])], leans[-1].places[start[-1]]
-    return lean.leanest_part(chosen), chosen.index(numbers[last])
+    return lean, chosen, chosen.index(numbers[last])

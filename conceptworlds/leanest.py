@@ -4,13 +4,13 @@ from conceptworlds.simulating import takers
 from conceptworlds.worlds import World, need_world
 
 
-def alike(world):
+def alike(graph):
     """The classes of alike things of a world, and for each thing the set of the things by which it is taken in.
 
-    Each thing is taken in by itself, and what is taken in by a taker of a thing takes in this, too;
-    so things are alike exactly if they are taken in by the same things.
+    The world is given as a graph. Each thing is taken in by itself, and what is taken in by a taker of a thing takes
+    in this, too; so things are alike exactly if they are taken in by the same things.
     """
-    masks, found = takers(world.graph(), world.graph(), world.words()), {}
+    masks, found = takers(graph, graph, (list(graph.named), list(graph.ahead))), {}
     for thing, mask in enumerate(masks):
         found.setdefault(mask, []).append(thing)
     return list(found.values()), masks
@@ -19,14 +19,14 @@ def alike(world):
 def classes(world):
     """The classes of alike things, in the order of their least things."""
     need_world(world)
-    return alike(world)[0]
+    return alike(world.graph())[0]
 
 
 def leanest(world):
     """The leanest world of a world."""
     need_world(world)
-    groups, masks = alike(world)
     graph, rows, edges = world.graph(), world.names(), []
+    groups, masks = alike(graph)
     for at, group in enumerate(groups):
         for role in graph.ahead:
             ends = 0

@@ -72,8 +72,10 @@ def fillings(pattern, hole, goal):
         raise TooLarge("there are more than 500 choices")
     forms = Forms()
     numbers, wanted = choices.forms_of_goal(forms), forms.of(goal)
-    sets = [tuple(sorted(set([numbers[image] for image in choice]))) for choice in choices.all_choices()]
-    common = {_common_form(forms, known): True for known in {told: True for told in sets}}
+    sets = {}
+    for choice in choices.all_choices():
+        sets[tuple(sorted(set([numbers[image] for image in choice])))] = True
+    common = {_common_form(forms, known): True for known in sets}
     found = [number for number in common if _put_form(forms, pattern, hole, number) == wanted]
     least = [number for number in found if not _has_lower(forms, found, number)]
     order = sorted([(forms.texts[number], number) for number in least])

@@ -85,14 +85,10 @@ def need_good_things(things, data):
         raise BadThing("not an ascending tuple of one or more things")
 
 
-def shared_part(told, things):
-    """The shared world and the shared thing of things of data, of the told world of the data."""
-    return shared_world([told for _ in things], things)
-
-
 def shared_things(book, data, things):
     """The shared world and the shared thing of things of data."""
     need_book(book)
     need_world(data)
     need_good_things(things, data)
-    return shared_part(world_of_data(book, data), things)
+    told = world_of_data(book, data)
+    return shared_world([told for _ in things], things)

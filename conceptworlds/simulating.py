@@ -9,19 +9,17 @@ def takers(graph, other, words):
     The sets shrink, until each edge of a thing is matched by the things of its set.
     """
     names, roles = words
-    masks = _starts(graph, other, names)
-    before = _sources(graph, roles, len(masks))
-    known = {}
-    order = _ends_first(before, graph, roles)
+    masks, known = _starts(graph, other, names), {}
+    order = _ends_first(graph, roles)
     pending = {thing: True for thing in order}
     while pending:
         for thing in [one for one in order if one in pending]:
             del pending[thing]
-            for role, sources in before[thing].items():
-                key = role, masks[thing]
-                if key not in known:
+            for role in roles:
+                key, sources = (role, masks[thing]), graph.sources(role).get(thing, 0)
+                if sources and key not in known:
                     known[key] = other.behind(role, masks[thing])
-                for source in sources:
+                for source in bits(sources):
                     mask = masks[source] & known[key]
                     if mask != masks[source]:
                         masks[source] = mask
@@ -38,23 +36,13 @@ def _starts(graph, other, names):
     return masks
 
 
-def _sources(graph, roles, many):
-    """For each of so many things, a dict from told roles to the things with an edge by the role to it."""
-    before = [{} for _ in range(many)]
-    for role in roles:
-        for thing, targets in graph.ahead.get(role, {}).items():
-            for target in bits(targets):
-                before[target].setdefault(role, []).append(thing)
-    return before
-
-
-def _ends_first(before, graph, roles):
+def _ends_first(graph, roles):
     """All things in an order in which a thing mostly comes behind those to which it has edges.
 
     This order only saves rounds: a chain needs one.
     """
     order, seen = [], {}
-    for start in range(len(before)):
+    for start in bits(graph.everything):
         trail = [] if start in seen else [(start, False)]
         while trail:
             thing, done = trail.pop()
@@ -66,3 +54,22 @@ def _ends_first(before, graph, roles):
                 for role in roles:
                     trail.extend([(end, False) for end in bits(graph.targets(role, thing)) if end not in seen])
     return order
+
+
+def found_pairs(graph, other, masks, pair, roles):
+    """An ascending list of pairs of things, of which the first are taken in by the second, from a pair of these on.
+
+    masks are the sets of takers. For each edge of the first thing of a pair by a told role, there is one of the
+    second thing that leads to a pair, too.
+    """
+    found, waiting = {pair: True}, [pair]
+    while waiting:
+        one, taker = waiting.pop()
+        for role in roles:
+            ends = other.targets(role, taker)
+            for end in bits(graph.targets(role, one)):
+                fresh = end, bits(ends & masks[end])[0]
+                if fresh not in found:
+                    found[fresh] = True
+                    waiting.append(fresh)
+    return sorted(found)

@@ -2,6 +2,7 @@
 
 import doctest
 import unittest
+from pathlib import Path
 
 EXAMPLES = {
     "concepts": r"""
@@ -154,6 +155,12 @@ class Examples(unittest.TestCase):
                 test = doctest.DocTestParser().get_doctest(told, {}, name, None, 0)
                 self.assertTrue(test.examples)
                 self.assertEqual(doctest.DocTestRunner().run(test).failed, 0)
+
+    def test_readme(self):
+        told = (Path(__file__).resolve().parent.parent / "README.md").read_text().replace("```", "")
+        test = doctest.DocTestParser().get_doctest(told, {}, "README", None, 0)
+        self.assertGreater(len(test.examples), 10)
+        self.assertEqual(doctest.DocTestRunner().run(test).failed, 0)
 
 
 if __name__ == "__main__":
