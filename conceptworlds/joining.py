@@ -98,9 +98,14 @@ def _reached(graphs, things):
     return found
 
 
+def _each_once(values):
+    """Some values, each of them where it first comes."""
+    return list({value: True for value in values})
+
+
 def _joined(first, second, pairs):
     """The classes of the product of two lean worlds, as far as some pairs lead, and a dict from pairs to classes."""
-    order = list({pair: True for pair in pairs})
+    order = _each_once(pairs)
     numbers, edges = {pair: number for number, pair in enumerate(order)}, []
     at = 0
     while at < len(order):
@@ -123,11 +128,6 @@ def _joined(first, second, pairs):
     return lean, {pair: lean.places[number] for pair, number in numbers.items()}
 
 
-def _each_once(values):
-    """Some numbers, each of them where it first comes."""
-    return list({value: True for value in values})
-
-
 def shared_world(worlds, things):
     """The leanest world of the part, behind things of some worlds, of the product of these, and the class of these."""
     lean, chosen, place = shared_classes(worlds, things)
@@ -135,7 +135,7 @@ def shared_world(worlds, things):
 
 
 def shared_classes(worlds, things):
-    """Classes of things with those of the product of some worlds, the list of these, and the place of some things' own.
+    """The classes of such a part: a lean world, a list of those of its classes, and the place of the things in it.
 
     In the product the tuples of things have their numbers in ascending order. A tuple is in just the concepts in
     which its classes are, so that one world after the other can be joined as a lean one.
@@ -153,11 +153,11 @@ def shared_classes(worlds, things):
         pairs = [(place, leans[at].places[one[at]]) for place, one in zip(places, order)]
         lean, numbers = _joined(lean, leans[at], pairs)
         places = [numbers[pair] for pair in pairs]
-    pairs = {}
+    whole = {}
     for place, one in zip(places, order):
         for end in bits(found[one]):
-            pairs[place, leans[-1].places[end]] = True
-    lean, numbers = _joined(lean, leans[-1], pairs)
-    chosen = _each_once([numbers[pair] for pair in pairs])
-    last = places[order.index(start[:-1])], leans[-1].places[start[-1]]
-    return lean, chosen, chosen.index(numbers[last])
+            whole[place, leans[-1].places[end]] = True
+    own = places[order.index(start[:-1])], leans[-1].places[start[-1]]
+    lean, numbers = _joined(lean, leans[-1], list(whole))
+    chosen = _each_once([numbers[pair] for pair in whole])
+    return lean, chosen, chosen.index(numbers[own])
