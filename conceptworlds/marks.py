@@ -2,6 +2,7 @@
 
 from conceptworlds.kindtables import KindTable
 from conceptworlds.smallest import Smallest
+from conceptworlds.tables import value_of
 
 
 class MarkTable:
@@ -20,14 +21,11 @@ class MarkTable:
 
     def of(self, concept):
         """The mark of a concept without none."""
-        if isinstance(concept, str):
-            return self._make(self._table.of_term(concept), self._plain.of_name(concept))
-        if concept[0] == "some":
-            return self.lift(concept[1], self.of(concept[2]))
-        found = self.of(concept[1])
-        for part in concept[2:]:
-            found = self.meet(found, self.of(part))
-        return found
+        return value_of(self, concept)
+
+    def of_name(self, name):
+        """The mark of all, or of a name."""
+        return self._make(self._table.of_term(name), self._plain.of_name(name))
 
     def meet(self, one, other):
         """The mark of the and of two concepts, of their marks."""

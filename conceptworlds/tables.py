@@ -1,4 +1,4 @@
-"""Numbers for concepts, so that concepts that are nested deep can be keys."""
+"""Numbers for concepts, so that concepts that are nested deep can be keys, and values that tables have for them."""
 
 
 class Table:
@@ -42,3 +42,15 @@ class Table:
             self.roles.append(role)
             self.within.append(within)
         return self._numbers[key]
+
+
+def value_of(table, concept):
+    """What a table tells of a concept, made of what it tells of names, of the ands of two parts, and of somes."""
+    if isinstance(concept, str):
+        return table.of_name(concept)
+    if concept[0] == "some":
+        return table.lift(concept[1], value_of(table, concept[2]))
+    found = value_of(table, concept[1])
+    for part in concept[2:]:
+        found = table.meet(found, value_of(table, part))
+    return found

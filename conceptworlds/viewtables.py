@@ -3,6 +3,7 @@
 from conceptworlds.graphs import bits, lies_in, mask_of
 from conceptworlds.kindtables import KindTable
 from conceptworlds.simulating import takers
+from conceptworlds.tables import value_of
 from conceptworlds.toldworlds import telling_world
 
 
@@ -46,14 +47,7 @@ class ViewTable:
 
     def of(self, concept):
         """The view of a concept."""
-        if isinstance(concept, str):
-            return self.of_name(concept)
-        if concept[0] == "some":
-            return self.lift(concept[1], self.of(concept[2]))
-        found = self.of(concept[1])
-        for part in concept[2:]:
-            found = self.meet(found, self.of(part))
-        return found
+        return value_of(self, concept)
 
     def meet(self, one, other):
         """The view of the and of two concepts, of their views."""
