@@ -4,7 +4,7 @@ import ast
 import importlib
 import unittest
 
-from tests.language import ROOT, check_walks, complaints, files, rings
+from tests.language import ROOT, check_tries, check_walks, complaints, files, rings
 
 INTERFACE = {
     "errors": ["ConceptError", "BadConcept", "BadWords", "BadWorld", "BadThing", "BadBook", "BadPrices", "NotSame",
@@ -73,6 +73,13 @@ class Language(unittest.TestCase):
                 ("def f(s):\n for x in s.rows:\n  s.rows.pop()", False), ("def f(s, c):\n ys = s.rows if c else []\n for x in ys:\n  del s.rows[0]", False),
                 ("def f(xs):\n ys = []\n for x in xs:\n  ys.append(x)\n return ys", True)]:
             self.assertIs(not list(check_walks(ast.parse(told))), right, told)
+
+    def test_a_finally_only_assigns(self):
+        start = "def f(s, w):\n x = s.a\n try:\n  return w(s)\n "
+        for told, right in [("finally:\n  s.a = x", True), ("finally:\n  s.a = s.b\n  s.b = x", True), ("finally:\n  s.back()", False),
+                            ("finally:\n  s.a = y", False), ("finally:\n  s.a = x + 1", False), ("finally:\n  s.a = s.b.c", False),
+                            ("except ValueError:\n  s.a = x", False), ("finally:\n  return 1", False)]:
+            self.assertIs(not list(check_tries(ast.parse(start + told))), right, told)
 
     def test_no_rings_of_imports(self):
         self.assertEqual(rings(), [])
