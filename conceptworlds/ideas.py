@@ -1,6 +1,6 @@
 """Ideas: concepts as objects, equal if the concepts are plainly equal."""
 
-from conceptworlds.concepts import need_concept, need_role, size_of, text_of
+from conceptworlds.concepts import need_role, size_of, text_of
 from conceptworlds.plain import plainly_within
 from conceptworlds.reading import read
 from conceptworlds.reduced import plain_common, reduced
@@ -17,9 +17,8 @@ class Idea:
     """A concept, told by what it says."""
 
     def __init__(self, told):
-        need_concept(told)
-        self._given = told
         self._form = reduced(told)
+        self._given = told
         self._told = text_of(self._form)
         self._items = _items_of(self._form)
 

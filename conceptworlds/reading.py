@@ -46,7 +46,7 @@ class Reader:
         if self._takes("("):
             found = self._read_items(levels - 1)
             if not self._takes(")"):
-                raise BadText("a parenthesis is open")
+                raise BadText("a parenthesis is not closed")
             return found
         word = self._read_word()
         if word != "some" or not self._takes(" "):

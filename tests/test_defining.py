@@ -241,6 +241,8 @@ class Refusals(unittest.TestCase):
                     function(BOOK, bad, None, None)
                 with self.assertRaises(BadConcept):
                     function(BOOK, "a", bad, None)
+                with self.assertRaises(BadConcept):
+                    function(BOOK, bad, "a", ((), ()))
             for bad in BAD_WORDS:
                 with self.assertRaises(BadWords):
                     function(BOOK, "a", "b", bad)

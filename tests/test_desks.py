@@ -319,7 +319,7 @@ class Refusals(unittest.TestCase):
             with self.assertRaises(BadWords):
                 desk.add_edge(0, bad, 0)
         for bad in [None, True, False, -1, 2, "0", (0,), 10 ** 20]:
-            for call in (lambda: desk.add_name(bad, None), lambda: desk.add_edge(bad, None, None), lambda: desk.add_edge(0, None, bad), lambda: desk.add_edge(0, "r", bad)):
+            for call in (lambda: desk.add_name(bad, None), lambda: desk.add_name(bad, "a"), lambda: desk.add_edge(bad, None, None), lambda: desk.add_edge(bad, "r", 0), lambda: desk.add_edge(0, None, bad), lambda: desk.add_edge(0, "r", bad)):
                 with self.assertRaises(BadThing):
                     call()
         for bad in BAD_CONCEPTS:

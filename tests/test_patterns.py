@@ -133,6 +133,23 @@ class Fillings(unittest.TestCase):
         with self.assertRaises(TooLarge):
             fillings(("and", *[("some", "r", "x")] * 60), "x", goal(12))
 
+    def test_one_choice_too_many(self):
+        names = ["y" + one + other for one in "abcdefghijklm" for other in "abcdefghijklm"]
+        goal = ("and", *[("some", "r", name) for name in names[:3]], *[("some", "s", name) for name in names[:167]])
+        pattern = ("and", ("some", "r", "x"), ("some", "s", "x"))
+        with self.assertRaises(TooLarge):
+            fillings(pattern, "x", goal)
+        self.assertEqual(fillings(pattern, "x", goal[:-1]), [])
+
+    def test_images_must_have_the_names(self):
+        goal = ("and", "z", *[("some", "r", "y" + chr(97 + at)) for at in range(23)])
+        twice = [("some", "r", "x"), ("some", "r", "x")]
+        self.assertEqual(fillings(("and", "q", *twice), "x", goal), [])
+        self.assertEqual(fillings(("and", "z", *[("some", "r", ("and", "x", "ya"))] * 2), "x", goal), [])
+        self.assertEqual(fillings(("and", "z", *[("some", "r", ("and", "x", "ya"))] * 2, *goal[3:]), "x", goal), ["ya"])
+        with self.assertRaises(TooLarge):
+            fillings(("and", "z", *twice), "x", goal)
+
     def test_choices_that_are_the_same(self):
         # images of nodes without holes make no more choices
         goal = ("and", *[("some", "r", "y" + chr(97 + at)) for at in range(20)])

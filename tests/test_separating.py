@@ -118,7 +118,8 @@ class Shows(unittest.TestCase):
     def test_separated(self):
         question = RBB, DATA, (0,), (1, 3), (("b",), ("r", "s"))
         for told, level, right in [("b", 0, True), (("and", "b", "b", "all"), 0, True), ("b", 1, False), ("b", -1, False), (somes(1, "b"), 1, False), ("a", 0, False),
-                                   ("none", 0, False), (("and", "b", "none"), 0, False), ("all", 0, False), ("c", 0, False), (("and", "b", somes(1, "all")), 1, False)]:
+                                   ("none", 0, False), (("and", "b", "none"), 0, False), ("all", 0, False), ("c", 0, False), (("and", "b", somes(1, "all")), 1, False),
+                                   (("and", "b", somes(1, "all")), 0, False), (somes(1, "b"), 0, False)]:
             self.check(right, Separated(told, level), *question)
         question = [], DATA, (0,), (1, 3), (("b",), ("r", "s"))
         for told, level, right in [(somes(1, "b"), 1, True), (somes(1, ("and", "b", "all")), 1, True), ("b", 0, False), (somes(1, "all"), 1, False), (somes(1, "c"), 1, False),
@@ -177,9 +178,13 @@ class Refusals(unittest.TestCase):
             for bad in [*wrong, ()]:
                 with self.assertRaises(BadThing):
                     function(never, DATA, bad, None, None)
+                with self.assertRaises(BadThing):
+                    function(never, DATA, bad, (1,), WORDS)
             for bad in wrong:
                 with self.assertRaises(BadThing):
                     function(never, DATA, (0, 3), bad, None)
+                with self.assertRaises(BadThing):
+                    function(never, DATA, (0, 3), bad, WORDS)
             for bad in BAD_WORDS:
                 with self.assertRaises(BadWords):
                     function(never, DATA, (0, 3), (1,), bad)

@@ -142,6 +142,19 @@ class Shows(unittest.TestCase):
             self.check(False, kept=[(other, follows_it)])
         self.check(False, lost=[lost[0], (("and", "all", ("some", "s", ("and", "c", "d"))), lost[1][1])])
 
+    def test_concepts_that_are_not_weaker(self):
+        lost, kept = self.found.lost, self.found.kept
+        self.assertTrue(follows(changed(BOOK, 1, ("and", "b", "e")), "a", ("and", "b", "e")))
+        self.check(False, kept=[self.judged(("and", "b", "e")), *kept])
+        self.check(False, lost=[*lost[:1], self.judged("f"), *lost[1:]])
+
+    def test_evidence_of_the_other_class(self):
+        whole = reduced(BOOK[1][2])
+        self.assertEqual(concepts_of(weaker(BOOK, 1, "b", "b")), [[], ["all"]])
+        self.assertIs(Weaker([(whole, judge(changed(BOOK, 1, whole), "b", "b"))], []).shows(BOOK, 1, "b", "b"), False)
+        self.check(False, lost=[], kept=[self.judged("all")])
+        self.check(False, lost=[self.judged(whole)], kept=[])
+
     def test_evidence(self):
         lost, kept = self.found.lost, self.found.kept
         self.check(False, lost=[(lost[0][0], lost[1][1]), lost[1]])
